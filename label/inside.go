@@ -8,11 +8,9 @@ import (
 )
 
 const (
-	none    = "-"
-	between = ","
-	is      = ":"
-	not     = "!"
-	lacks   = "-"
+	is    = ":"
+	not   = "!"
+	lacks = "-"
 )
 
 func checkTerm(t Term) api.Errno {
@@ -47,17 +45,6 @@ func holds(t Term, s Set) bool {
 	return false
 }
 
-func joined[T any](l []T, tell func(T) string) string {
-	if len(l) == 0 {
-		return none
-	}
-	parts := make([]string, len(l))
-	for i, x := range l {
-		parts[i] = tell(x)
-	}
-	return strings.Join(parts, between)
-}
-
 func pairText(p Pair) string { return p.Key + is + p.Val }
 
 func termText(t Term) string {
@@ -70,36 +57,6 @@ func termText(t Term) string {
 		return lacks + t.Key
 	}
 	return t.Key
-}
-
-// caught answers what work makes, or the error that goes out of it by a panic.
-func caught[L any](work func() L) (l L, e api.Errno) {
-	defer func() {
-		if r := recover(); r != nil {
-			e = r.(api.Errno)
-		}
-	}()
-	return work(), api.OK
-}
-
-// parsed panics with what is wrong with s: who calls it is inside of caught. It makes all parts ahead of the check, as a form that is none is told first, wherever it stands.
-func parsed[L ~[]T, T any](s string, made func(part string) T, check func(L) api.Errno) L {
-	if s == none {
-		return nil
-	}
-	var l L
-	// Cloned: what is answered keeps no piece of the text that was handed in.
-	for part := range strings.SplitSeq(strings.Clone(s), between) {
-		x := made(part)
-		// One too many is enough to be refused, however many there are.
-		if len(l) <= api.MaxList {
-			l = append(l, x)
-		}
-	}
-	if e := check(l); e != api.OK {
-		panic(e)
-	}
-	return l
 }
 
 // pair refuses an empty part, too: it has no `:`.

@@ -13,17 +13,7 @@ const (
 	equals  = "="
 )
 
-// caught answers what work makes, or the error that goes out of it by a panic.
-func caught(work func() Vec) (v Vec, e api.Errno) {
-	defer func() {
-		if r := recover(); r != nil {
-			v, e = nil, r.(api.Errno)
-		}
-	}()
-	return work(), api.OK
-}
-
-// checked panics with what is wrong with v: who calls it is inside of caught. So are all below that panic.
+// checked panics with what is wrong with v: who calls it is inside of catch.Errno. So are all below that panic.
 func checked(v Vec) Vec {
 	refuseLong(v)
 	for i, a := range v {
