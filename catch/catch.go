@@ -12,3 +12,11 @@ func Errno[T any](work func() T) (made T, e api.Errno) {
 	}()
 	return work(), api.OK
 }
+
+// Sound answers what was made, or panics with its error: who calls it is inside of Errno's work.
+func Sound[T any](made T, e api.Errno) T {
+	if e != api.OK {
+		panic(e)
+	}
+	return made
+}

@@ -26,3 +26,17 @@ func TestErrnoAnswersWhatGoesOut(t *testing.T) {
 		t.Errorf("%v %v", l, e)
 	}
 }
+
+func TestSoundHandsOnWhatIsMade(t *testing.T) {
+	n, e := catch.Errno(func() int { return catch.Sound(7, api.OK) })
+	if n != 7 || e != api.OK {
+		t.Errorf("%d %v", n, e)
+	}
+}
+
+func TestSoundGoesOutWithTheError(t *testing.T) {
+	n, e := catch.Errno(func() int { return catch.Sound(7, api.ErrOver) + 1 })
+	if n != 0 || e != api.ErrOver {
+		t.Errorf("%d %v", n, e)
+	}
+}

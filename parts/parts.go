@@ -5,6 +5,7 @@ import (
 	"strings"
 
 	"ballast/api"
+	"ballast/catch"
 )
 
 const (
@@ -38,8 +39,5 @@ func Parse[L ~[]T, T any](s string, read func(part string) T, check func(L) api.
 			l = append(l, x)
 		}
 	}
-	if e := check(l); e != api.OK {
-		panic(e)
-	}
-	return l
+	return catch.Sound(l, check(l))
 }

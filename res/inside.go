@@ -5,6 +5,7 @@ import (
 	"strings"
 
 	"ballast/api"
+	"ballast/catch"
 )
 
 const (
@@ -47,7 +48,7 @@ func merged(a, b Vec, reckon reckoning) Vec {
 		var x, y int64
 		x, a = taken(a, name)
 		y, b = taken(b, name)
-		v = with(v, name, sound(reckon(x, y)))
+		v = with(v, name, catch.Sound(reckon(x, y)))
 	}
 	// Asked at the end: an error of any name is ahead of too many names.
 	refuseLong(v)
@@ -72,16 +73,9 @@ func taken(v Vec, name string) (int64, Vec) {
 func each(v Vec, by int64, reckon reckoning) Vec {
 	var made Vec
 	for _, a := range checked(v) {
-		made = with(made, a.Name, sound(reckon(a.N, by)))
+		made = with(made, a.Name, catch.Sound(reckon(a.N, by)))
 	}
 	return made
-}
-
-func sound(n int64, e api.Errno) int64 {
-	if e != api.OK {
-		panic(e)
-	}
-	return n
 }
 
 func with(v Vec, name string, n int64) Vec {
