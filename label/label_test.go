@@ -10,14 +10,10 @@ import (
 
 	"ballast/api"
 	"ballast/label"
+	"ballast/trial"
 )
 
 const longest = "abcdefghijkl"
-
-// notNames: texts that are no res.Name.
-func notNames() []string {
-	return []string{"", longest + "m", "A", "aA", "a b", " a", "a ", "-", "-a", "a-b", "a_b", "a.b", "a/b", "a=b", "é", "１", "a\x00", "\xff", strings.Repeat("a", 1000)}
-}
 
 // pairs: that many, with keys that rise from the one of first on.
 func pairs(first, count int) label.Set {
@@ -79,7 +75,7 @@ func TestP401Check(t *testing.T) {
 		{pairs(0, 9), api.ErrLong},
 		{pairs(0, 20), api.ErrLong},
 	})
-	for _, bad := range notNames() {
+	for _, bad := range slices.Concat(trial.NotNames(), trial.Spaced(), []string{"", "-"}) {
 		checkSets(t, []setCase{
 			{label.Set{{bad, "v"}}, api.ErrName},
 			{label.Set{{"k", bad}}, api.ErrName},
@@ -168,7 +164,7 @@ func TestP401CheckSelAsksForOpsThatAre(t *testing.T) {
 }
 
 func TestP401CheckSelAsksForNames(t *testing.T) {
-	for _, bad := range notNames() {
+	for _, bad := range slices.Concat(trial.NotNames(), trial.Spaced(), []string{"", "-"}) {
 		for _, op := range []int{label.Is, label.Not} {
 			checkSels(t, []selCase{
 				{label.Sel{{op, bad, "b"}}, api.ErrName},
@@ -507,27 +503,9 @@ func TestP1EveryCallEnds(t *testing.T) {
 
 // Texts of the signs that matter, of up to six: each is read as it is written, or refused, with no panic.
 func TestP401WhatIsReadIsToldJustSoWritten(t *testing.T) {
-	const signs = "aB:!-,"
-	texts := []string{""}
-	for range 6 {
-		for _, text := range texts {
-			checkBack(t, text)
-		}
-		texts = longer(texts, signs)
-	}
-	for _, text := range texts {
+	for text := range trial.Texts("aB:!-,", 6) {
 		checkBack(t, text)
 	}
-}
-
-func longer(l []string, signs string) []string {
-	var made []string
-	for _, s := range l {
-		for i := range len(signs) {
-			made = append(made, s+signs[i:i+1])
-		}
-	}
-	return made
 }
 
 func checkBack(t *testing.T, text string) {

@@ -7,12 +7,12 @@ import (
 	"ballast/api"
 	"ballast/catch"
 	"ballast/label"
+	"ballast/parts"
 	"ballast/res"
 	"ballast/taint"
 )
 
 const (
-	blank     = " "
 	up        = "up"
 	cordon    = "cordon"
 	wordCount = 5
@@ -41,16 +41,14 @@ func parsed(s string) Node {
 
 // wordsOf panics with api.ErrForm: who calls it is inside of catch.Errno.
 func wordsOf(s string) []string {
-	// One word too many is enough to be refused, however many there are.
-	words := strings.SplitN(s, blank, wordCount+1)
-	if len(words) != wordCount {
-		panic(api.ErrForm)
-	}
+	words := parts.Words(s, wordCount)
 	if last := words[wordCount-1]; last != up && last != cordon {
 		panic(api.ErrForm)
 	}
 	return words
 }
+
+func nameOf(n Node) string { return n.Name }
 
 // owned takes lists of its own: an answer shares no memory with what was handed in.
 func owned(n Node) Node {

@@ -11,6 +11,7 @@ import (
 	"ballast/node"
 	"ballast/res"
 	"ballast/taint"
+	"ballast/trial"
 )
 
 const longest = "abcdefghijkl"
@@ -84,11 +85,6 @@ func taints(count int) []taint.Taint {
 	return l
 }
 
-// notNames: texts without a blank that are no res.Name.
-func notNames() []string {
-	return []string{"", longest + "m", "A", "aA", "-", "-a", "a-b", "a_b", "a.b", "a:b", "a=1", "a,b", "a!", "*", "é", "１", "a\t", "\n", "a\x00", "\xff", strings.Repeat("a", 1000)}
-}
-
 func same(a, b []node.Node) bool { return slices.EqualFunc(a, b, node.Same) }
 
 func isZero(n node.Node) bool {
@@ -113,7 +109,7 @@ func TestP601Check(t *testing.T) {
 		node.Node{Name: "a", Cap: amounts(8), Labels: pairs(8), Taints: taints(8)},
 		// one name for all is none too many
 		node.Node{Name: "a", Cap: res.Vec{amount("a", 1)}, Labels: label.Set{pair("a", "a")}, Taints: []taint.Taint{soft("a", "a")}})
-	for _, bad := range append(notNames(), " ", "a b", " a", "a ") {
+	for _, bad := range slices.Concat(trial.NotNames(), trial.Spaced(), []string{"", "-"}) {
 		checks(t, api.ErrName, node.Node{Name: bad}, node.Node{Name: bad, Cordon: true}, changed(func(n *node.Node) { n.Name = bad }))
 	}
 }
@@ -305,7 +301,7 @@ func TestP601ParseRefusesWords(t *testing.T) {
 	refused(t, api.ErrName, "a B=1 - - up", "a =1 - - up", "a - b:C - up", "a - : - up", "a - b!c:d - up", "a - - B:c up", "a - - b:c!! up", "a - - *:c up")
 	refused(t, api.ErrOrder, "a c=1,b=1 - - up", "a b=1,b=1 - - up", "a - c:x,b:x - up", "a - b:x,b:y - up")
 	refused(t, api.ErrTwice, "a - - b:c,b:c up", "a - - b:c,b:c! up")
-	for _, bad := range notNames() {
+	for _, bad := range append(trial.NotNames(), "", "-") {
 		refused(t, api.ErrName, bad+" - - - up", bad+" b=1 c:d e:f! cordon")
 	}
 }
@@ -354,21 +350,11 @@ func checkParse(t *testing.T, text string, want api.Errno) {
 
 // Texts of the signs that matter, of up to five around five words: each is read as it is written, or refused, with no panic.
 func TestP601WhatIsReadIsToldJustSoWritten(t *testing.T) {
-	texts := []string{""}
-	for range 5 {
-		var longer []string
-		for _, text := range texts {
-			for _, sign := range []string{"a", "B", "1", "=", ":", "!", ",", "-", " "} {
-				longer = append(longer, text+sign)
-			}
-		}
-		texts = longer
-		for _, text := range texts {
-			checkBack(t, text, "a ", " - - up")
-			checkBack(t, text, "a - ", " - up")
-			checkBack(t, text, "a - - ", " cordon")
-			checkBack(t, text, "", " up")
-		}
+	for text := range trial.Texts("aB1=:!,- ", 5) {
+		checkBack(t, text, "a ", " - - up")
+		checkBack(t, text, "a - ", " - up")
+		checkBack(t, text, "a - - ", " cordon")
+		checkBack(t, text, "", " up")
 	}
 }
 
@@ -458,17 +444,11 @@ func roomy() (node.Node, node.Node) {
 	return n, all
 }
 
-// spoil writes into a Node's lists, their spare room too.
-func spoil(n node.Node) {
-	for i := range n.Cap[:cap(n.Cap)] {
-		n.Cap[:cap(n.Cap)][i] = amount("mine", 77)
-	}
-	for i := range n.Labels[:cap(n.Labels)] {
-		n.Labels[:cap(n.Labels)][i] = pair("mine", "mine")
-	}
-	for i := range n.Taints[:cap(n.Taints)] {
-		n.Taints[:cap(n.Taints)][i] = hard("mine", "mine")
-	}
+// overwrite writes into a Node's lists, their spare room too.
+func overwrite(n node.Node) {
+	trial.Overwrite(n.Cap, amount("mine", 77))
+	trial.Overwrite(n.Labels, pair("mine", "mine"))
+	trial.Overwrite(n.Taints, hard("mine", "mine"))
 }
 
 func TestP2FindAnswersNewMemory(t *testing.T) {
@@ -476,7 +456,7 @@ func TestP2FindAnswersNewMemory(t *testing.T) {
 	_, before := roomy()
 	l := append(named("a"), n)
 	found, _ := node.Find(l, "n1")
-	spoil(found)
+	overwrite(found)
 	again, _ := node.Find(l, "n1")
 	if !node.Same(all, before) || !node.Same(l[1], whole()) || !node.Same(again, whole()) {
 		t.Errorf("Find answered what it was handed: %+v", all)
@@ -486,7 +466,7 @@ func TestP2FindAnswersNewMemory(t *testing.T) {
 func TestP2ParseAnswersNewMemory(t *testing.T) {
 	for text, want := range ordinary() {
 		first, _ := node.Parse(text)
-		spoil(first)
+		overwrite(first)
 		if again, _ := node.Parse(text); !node.Same(again, want) {
 			t.Errorf("Parse(%q) answered one list twice: %+v", text, again)
 		}

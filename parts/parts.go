@@ -1,7 +1,8 @@
-// Package parts: short lists in words, a part for each item.
+// Package parts: what texts are made of: words, decimals, short lists. What reads them panics with what is wrong: who calls it is inside of catch.Errno.
 package parts
 
 import (
+	"strconv"
 	"strings"
 
 	"ballast/api"
@@ -11,6 +12,7 @@ import (
 const (
 	none    = "-"
 	between = ","
+	blank   = " "
 )
 
 // Text joins what tell says of each item.
@@ -25,7 +27,7 @@ func Text[T any](l []T, tell func(T) string) string {
 	return strings.Join(told, between)
 }
 
-// Parse panics with what is wrong with s: who calls it is inside of catch.Errno, and so is read, which panics with api.ErrForm. It reads all parts ahead of the check, as a form that is none is told first, wherever it stands.
+// Parse reads all parts ahead of the check, as a form that is none is told first, wherever it stands; read panics with api.ErrForm.
 func Parse[L ~[]T, T any](s string, read func(part string) T, check func(L) api.Errno) L {
 	if s == none {
 		return nil
@@ -40,4 +42,61 @@ func Parse[L ~[]T, T any](s string, read func(part string) T, check func(L) api.
 		}
 	}
 	return catch.Sound(l, check(l))
+}
+
+// Join puts blanks between words.
+func Join(words ...string) string { return strings.Join(words, blank) }
+
+// Words answers so many words of s, with a blank between each two; of two blanks together there is an empty word between.
+func Words(s string, count int) []string {
+	// One word too many is enough to be refused, however many there are.
+	words := strings.SplitN(s, blank, count+1)
+	if len(words) != count {
+		panic(api.ErrForm)
+	}
+	return words
+}
+
+// Optional tells a text that may be empty.
+func Optional(s string) string {
+	if s == "" {
+		return none
+	}
+	return s
+}
+
+// ReadOptional is Optional's back; an empty word is no form of it, as it is not so told.
+func ReadOptional(word string) string {
+	switch word {
+	case "":
+		panic(api.ErrForm)
+	case none:
+		return ""
+	}
+	// Cloned: what is answered keeps no piece of the text that was handed in.
+	return strings.Clone(word)
+}
+
+// IsDecimal: a 0 ahead of other digits would let one number be written in several ways.
+func IsDecimal(s string) bool {
+	if s == "" || len(s) > 1 && s[0] == '0' {
+		return false
+	}
+	for i := range len(s) {
+		if !IsDigit(s[i]) {
+			return false
+		}
+	}
+	return true
+}
+
+func IsDigit(c byte) bool { return '0' <= c && c <= '9' }
+
+// Number reads a decimal up to 2^31 - 1.
+func Number(s string) int {
+	n, err := strconv.ParseInt(s, 10, 32)
+	if err != nil || !IsDecimal(s) {
+		panic(api.ErrForm)
+	}
+	return int(n)
 }

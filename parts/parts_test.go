@@ -66,3 +66,55 @@ func TestParse(t *testing.T) {
 		}
 	}
 }
+
+func TestWords(t *testing.T) {
+	for _, c := range []struct {
+		text  string
+		words []string
+	}{
+		{"a b c", []string{"a", "b", "c"}},
+		{"-  \t", []string{"-", "", "\t"}},
+		{"  ", []string{"", "", ""}},
+		{"", nil},
+		{"a b", nil},
+		{"a b c ", nil},
+		{" a b c", nil},
+		{"a  b c", nil},
+		{strings.Repeat("a ", 1000), nil},
+	} {
+		words, e := catch.Errno(func() []string { return parts.Words(c.text, 3) })
+		if !slices.Equal(words, c.words) || (e == api.OK) != (c.words != nil) || e != api.OK && e != api.ErrForm {
+			t.Errorf("%q: %q %v; want %q", c.text, words, e, c.words)
+		}
+		if e == api.OK && parts.Join(words...) != c.text {
+			t.Errorf("%q: joined %q", c.text, parts.Join(words...))
+		}
+	}
+}
+
+func TestOptional(t *testing.T) {
+	for text, word := range map[string]string{"": "-", "a": "a", "A!": "A!", "--": "--"} {
+		if told := parts.Optional(text); told != word {
+			t.Errorf("%q: told %q", text, told)
+		}
+		if read, e := catch.Errno(func() string { return parts.ReadOptional(word) }); read != text || e != api.OK {
+			t.Errorf("%q: read %q %v", word, read, e)
+		}
+	}
+	if read, e := catch.Errno(func() string { return parts.ReadOptional("") }); read != "" || e != api.ErrForm {
+		t.Errorf("an empty word: read %q %v", read, e)
+	}
+}
+
+func TestNumber(t *testing.T) {
+	for text, want := range map[string]int{"0": 0, "7": 7, "10": 10, "2147483646": 1<<31 - 2, "2147483647": 1<<31 - 1} {
+		if n, e := catch.Errno(func() int { return parts.Number(text) }); n != want || e != api.OK {
+			t.Errorf("%q: %d %v", text, n, e)
+		}
+	}
+	for _, text := range []string{"", "-", "-1", "-0", "+1", "00", "01", "1_0", "0x1", "1e3", "1.0", " 1", "1 ", "１", "a", "2147483648", "9223372036854775808", strings.Repeat("9", 1000)} {
+		if n, e := catch.Errno(func() int { return parts.Number(text) }); n != 0 || e != api.ErrForm {
+			t.Errorf("%q: %d %v", text, n, e)
+		}
+	}
+}

@@ -6,6 +6,7 @@ import (
 
 	"ballast/api"
 	"ballast/catch"
+	"ballast/parts"
 )
 
 const (
@@ -104,7 +105,7 @@ func parsed(s string) Vec {
 // Without just one `=`, too, what is behind the first one is no decimal.
 func refuseForm(part string) {
 	_, number, _ := strings.Cut(part, equals)
-	if !isDecimal(number) {
+	if !parts.IsDecimal(number) {
 		panic(api.ErrForm)
 	}
 }
@@ -126,18 +127,3 @@ func owned(v Vec) Vec {
 	}
 	return v
 }
-
-// A 0 ahead of other digits would let one number be written in several ways.
-func isDecimal(s string) bool {
-	if s == "" || len(s) > 1 && s[0] == '0' {
-		return false
-	}
-	for i := range len(s) {
-		if !isDigit(s[i]) {
-			return false
-		}
-	}
-	return true
-}
-
-func isDigit(c byte) bool { return '0' <= c && c <= '9' }

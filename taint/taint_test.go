@@ -8,6 +8,7 @@ import (
 
 	"ballast/api"
 	"ballast/taint"
+	"ballast/trial"
 )
 
 const longest = "abcdefghijkl"
@@ -19,11 +20,6 @@ func soft(key, val string) taint.Taint { return taint.Taint{Key: key, Val: val} 
 func tol(key, val string) taint.Tol { return taint.Tol{Key: key, Val: val} }
 
 func anyOf(key string) taint.Tol { return taint.Tol{Key: key, Any: true} }
-
-// notNames: texts, none of them empty, that are no res.Name.
-func notNames() []string {
-	return []string{longest + "m", "A", "aA", "a b", " a", "a ", "-", "-a", "a-b", "a_b", "a.b", "a!", "!", "a:b", ":", "a,b", "*", "a*", "é", "１", "a\x00", "\xff", strings.Repeat("a", 1000)}
-}
 
 // taints: that many of one Key, hard and soft ones in turn.
 func taints(count int) []taint.Taint {
@@ -81,7 +77,7 @@ func TestP501Check(t *testing.T) {
 }
 
 func TestP501CheckAsksForNames(t *testing.T) {
-	for _, bad := range append(notNames(), "") {
+	for _, bad := range slices.Concat(trial.NotNames(), trial.Spaced(), []string{"", "-"}) {
 		checks(t, api.ErrName,
 			[]taint.Taint{hard(bad, "v")},
 			[]taint.Taint{soft(bad, "v")},
@@ -140,7 +136,7 @@ func TestP501CheckTols(t *testing.T) {
 }
 
 func TestP501CheckTolsAsksForNames(t *testing.T) {
-	for _, bad := range notNames() {
+	for _, bad := range slices.Concat(trial.NotNames(), trial.Spaced(), []string{"-"}) {
 		checksTols(t, api.ErrName,
 			[]taint.Tol{tol(bad, "v")},
 			[]taint.Tol{anyOf(bad)},
@@ -477,18 +473,8 @@ func TestP1EveryCallEnds(t *testing.T) {
 
 // Texts of the signs that matter, of up to six: each is read as it is written, or refused, with no panic.
 func TestP501WhatIsReadIsToldJustSoWritten(t *testing.T) {
-	texts := []string{""}
-	for range 6 {
-		var longer []string
-		for _, text := range texts {
-			for _, sign := range []string{"a", "B", ":", "!", "*", "-", ","} {
-				longer = append(longer, text+sign)
-			}
-		}
-		texts = longer
-		for _, text := range texts {
-			checkBack(t, text)
-		}
+	for text := range trial.Texts("aB:!*-,", 6) {
+		checkBack(t, text)
 	}
 }
 
