@@ -145,68 +145,49 @@ func TestP701CheckMost(t *testing.T) {
 	}
 }
 
-// fault spoils one part of a Pod, so that Check alone tells want.
-type fault struct {
-	what  string
-	want  api.Errno
-	spoil func(p *pod.Pod)
-}
-
 // faults, in the order in which Check asks for them.
-func faults() [][]fault {
-	return [][]fault{
-		{{"Name", api.ErrName, func(p *pod.Pod) { p.Name = "P" }}},
-		{{"Owner", api.ErrName, func(p *pod.Pod) { p.Owner = "-" }}},
+func faults() [][]trial.Fault[pod.Pod] {
+	return [][]trial.Fault[pod.Pod]{
+		{trial.Spoilt(api.ErrName, func(p *pod.Pod) { p.Name = "P" })},
+		{trial.Spoilt(api.ErrName, func(p *pod.Pod) { p.Owner = "-" })},
 		{
-			{"Prio below", api.ErrArg, func(p *pod.Pod) { p.Prio = -2 }},
-			{"Prio above", api.ErrArg, func(p *pod.Pod) { p.Prio = 1000001 }},
-			{"Prio of a Hold", api.ErrArg, func(p *pod.Pod) { p.Prio = -1 }},
-			{"Hold", api.ErrArg, func(p *pod.Pod) { p.Hold = true }},
+			trial.Spoilt(api.ErrArg, func(p *pod.Pod) { p.Prio = -2 }),
+			trial.Spoilt(api.ErrArg, func(p *pod.Pod) { p.Prio = 1000001 }),
+			trial.Spoilt(api.ErrArg, func(p *pod.Pod) { p.Prio = -1 }),
+			trial.Spoilt(api.ErrArg, func(p *pod.Pod) { p.Hold = true }),
 		},
 		{
-			{"Need long", api.ErrLong, func(p *pod.Pod) { p.Need = needs(9) }},
-			{"Need name", api.ErrName, func(p *pod.Pod) { p.Need = res.Vec{{Name: "B", N: 1}} }},
-			{"Need arg", api.ErrArg, func(p *pod.Pod) { p.Need = res.Vec{{Name: "b"}} }},
-			{"Need order", api.ErrOrder, func(p *pod.Pod) { p.Need = res.Vec{{Name: "b", N: 1}, {Name: "a", N: 1}} }},
+			trial.Spoilt(api.ErrLong, func(p *pod.Pod) { p.Need = needs(9) }),
+			trial.Spoilt(api.ErrName, func(p *pod.Pod) { p.Need = res.Vec{{Name: "B", N: 1}} }),
+			trial.Spoilt(api.ErrArg, func(p *pod.Pod) { p.Need = res.Vec{{Name: "b"}} }),
+			trial.Spoilt(api.ErrOrder, func(p *pod.Pod) { p.Need = res.Vec{{Name: "b", N: 1}, {Name: "a", N: 1}} }),
 		},
 		{
-			{"Labels long", api.ErrLong, func(p *pod.Pod) { p.Labels = pairs(9) }},
-			{"Labels name", api.ErrName, func(p *pod.Pod) { p.Labels = label.Set{{Key: "b"}} }},
-			{"Labels order", api.ErrOrder, func(p *pod.Pod) { p.Labels = label.Set{{Key: "b", Val: "x"}, {Key: "b", Val: "y"}} }},
+			trial.Spoilt(api.ErrLong, func(p *pod.Pod) { p.Labels = pairs(9) }),
+			trial.Spoilt(api.ErrName, func(p *pod.Pod) { p.Labels = label.Set{{Key: "b"}} }),
+			trial.Spoilt(api.ErrOrder, func(p *pod.Pod) { p.Labels = label.Set{{Key: "b", Val: "x"}, {Key: "b", Val: "y"}} }),
 		},
 		{
-			{"Sel long", api.ErrLong, func(p *pod.Pod) { p.Sel = terms(9) }},
-			{"Sel arg", api.ErrArg, func(p *pod.Pod) { p.Sel = label.Sel{{Key: "b", Val: "x"}} }},
-			{"Sel name", api.ErrName, func(p *pod.Pod) { p.Sel = label.Sel{{Op: label.Has, Key: "b", Val: "x"}} }},
+			trial.Spoilt(api.ErrLong, func(p *pod.Pod) { p.Sel = terms(9) }),
+			trial.Spoilt(api.ErrArg, func(p *pod.Pod) { p.Sel = label.Sel{{Key: "b", Val: "x"}} }),
+			trial.Spoilt(api.ErrName, func(p *pod.Pod) { p.Sel = label.Sel{{Op: label.Has, Key: "b", Val: "x"}} }),
 		},
 		{
-			{"Tols long", api.ErrLong, func(p *pod.Pod) { p.Tols = tols(9) }},
-			{"Tols name", api.ErrName, func(p *pod.Pod) { p.Tols = []taint.Tol{{Key: "b"}} }},
+			trial.Spoilt(api.ErrLong, func(p *pod.Pod) { p.Tols = tols(9) }),
+			trial.Spoilt(api.ErrName, func(p *pod.Pod) { p.Tols = []taint.Tol{{Key: "b"}} }),
 		},
-		{{"Key", api.ErrName, func(p *pod.Pod) { p.Key = "K" }}},
+		{trial.Spoilt(api.ErrName, func(p *pod.Pod) { p.Key = "K" })},
 		{
-			{"Most below", api.ErrArg, func(p *pod.Pod) { p.Most = 0 }},
-			{"Most above", api.ErrArg, func(p *pod.Pod) { p.Most = 129 }},
+			trial.Spoilt(api.ErrArg, func(p *pod.Pod) { p.Most = 0 }),
+			trial.Spoilt(api.ErrArg, func(p *pod.Pod) { p.Most = 129 }),
 		},
-		{{"Node", api.ErrName, func(p *pod.Pod) { p.Node = "N" }}},
+		{trial.Spoilt(api.ErrName, func(p *pod.Pod) { p.Node = "N" })},
 	}
 }
 
 func TestP701CheckTellsTheFirstError(t *testing.T) {
-	places := faults()
-	for i, first := range places {
-		for _, f := range first {
-			checks(t, f.want, changed(f.spoil))
-			for _, later := range places[i+1:] {
-				for _, g := range later {
-					p := changed(g.spoil)
-					f.spoil(&p)
-					if e := pod.Check(p); e != f.want {
-						t.Errorf("%s and %s: %v; want %v", f.what, g.what, e, f.want)
-					}
-				}
-			}
-		}
+	for p, want := range trial.Faulty(whole, faults()) {
+		checks(t, want, p)
 	}
 	// Without a Key, too, Most is asked for ahead of Node.
 	checks(t, api.ErrArg, pod.Pod{Name: "a", Most: 1, Node: "N"})
@@ -377,12 +358,8 @@ func refused(t *testing.T, want api.Errno, texts ...string) {
 	}
 }
 
-// with: the words of a Pod that is sound, one of them another.
-func with(at int, word string) string {
-	words := strings.Split(wholeText, " ")
-	words[at] = word
-	return strings.Join(words, " ")
-}
+// with: the text of a Pod that is sound, one of its words another.
+func with(at int, word string) string { return trial.With(wholeText, at, word) }
 
 func TestP701ParseRefusesForms(t *testing.T) {
 	refused(t, api.ErrForm,
@@ -466,44 +443,29 @@ func TestP701ParseRefusesLists(t *testing.T) {
 	}
 }
 
-// wrong is a word for a place of a text, with the error that Parse tells of it.
-type wrong struct {
-	at   int
-	word string
-	want api.Errno
-}
-
 // wrongWords, in the order in which Parse asks for them: forms, then words, then what Check asks for; those of one group are told alike ahead of the groups behind.
-func wrongWords() [][]wrong {
-	return [][]wrong{
-		{{2, "01", api.ErrForm}, {2, "-2", api.ErrForm}, {7, "k", api.ErrForm}, {7, "/1", api.ErrForm}, {7, "k/1/1", api.ErrForm}, {9, "Real", api.ErrForm}, {9, "", api.ErrForm}, {0, "a b", api.ErrForm}, {8, "n ", api.ErrForm}},
-		{{1, "", api.ErrForm}},
-		{{3, "b", api.ErrForm}, {3, "b=9223372036854775808", api.ErrOver}, {3, "b=0", api.ErrArg}, {3, "b=1,b=1", api.ErrOrder}, {3, "B=1", api.ErrName}},
-		{{4, "b", api.ErrForm}, {4, "b:x,b:x", api.ErrOrder}, {4, "B:x", api.ErrName}, {4, label.Text(pairs(9)), api.ErrLong}},
-		{{5, "", api.ErrForm}, {5, "B", api.ErrName}, {5, label.SelText(terms(9)), api.ErrLong}},
-		{{6, ":x", api.ErrForm}, {6, "B", api.ErrName}, {6, taint.TolText(tols(9)), api.ErrLong}},
-		{{8, "", api.ErrForm}},
-		{{0, "P", api.ErrName}, {0, "", api.ErrName}},
-		{{1, "W", api.ErrName}},
-		{{2, "1000001", api.ErrArg}, {2, "-1", api.ErrArg}, {9, "hold", api.ErrArg}},
-		{{7, "K/1", api.ErrName}, {7, "K/0", api.ErrName}},
-		{{7, "k/0", api.ErrArg}, {7, "k/129", api.ErrArg}},
-		{{8, "N", api.ErrName}},
+func wrongWords() [][]trial.Word {
+	wrong := trial.Wrong
+	return [][]trial.Word{
+		{wrong(2, "01", api.ErrForm), wrong(2, "-2", api.ErrForm), wrong(7, "k", api.ErrForm), wrong(7, "/1", api.ErrForm), wrong(7, "k/1/1", api.ErrForm), wrong(9, "Real", api.ErrForm), wrong(9, "", api.ErrForm), wrong(0, "a b", api.ErrForm), wrong(8, "n ", api.ErrForm)},
+		{wrong(1, "", api.ErrForm)},
+		{wrong(3, "b", api.ErrForm), wrong(3, "b=9223372036854775808", api.ErrOver), wrong(3, "b=0", api.ErrArg), wrong(3, "b=1,b=1", api.ErrOrder), wrong(3, "B=1", api.ErrName)},
+		{wrong(4, "b", api.ErrForm), wrong(4, "b:x,b:x", api.ErrOrder), wrong(4, "B:x", api.ErrName), wrong(4, label.Text(pairs(9)), api.ErrLong)},
+		{wrong(5, "", api.ErrForm), wrong(5, "B", api.ErrName), wrong(5, label.SelText(terms(9)), api.ErrLong)},
+		{wrong(6, ":x", api.ErrForm), wrong(6, "B", api.ErrName), wrong(6, taint.TolText(tols(9)), api.ErrLong)},
+		{wrong(8, "", api.ErrForm)},
+		{wrong(0, "P", api.ErrName), wrong(0, "", api.ErrName)},
+		{wrong(1, "W", api.ErrName)},
+		{wrong(2, "1000001", api.ErrArg), wrong(2, "-1", api.ErrArg), wrong(9, "hold", api.ErrArg)},
+		{wrong(7, "K/1", api.ErrName), wrong(7, "K/0", api.ErrName)},
+		{wrong(7, "k/0", api.ErrArg), wrong(7, "k/129", api.ErrArg)},
+		{wrong(8, "N", api.ErrName)},
 	}
 }
 
 func TestP701ParseTellsTheFirstError(t *testing.T) {
-	groups := wrongWords()
-	for i, group := range groups {
-		for _, first := range group {
-			refused(t, first.want, with(first.at, first.word))
-			for _, second := range slices.Concat(groups[i+1:]...) {
-				words := strings.Split(wholeText, " ")
-				words[second.at] = second.word
-				words[first.at] = first.word
-				refused(t, first.want, strings.Join(words, " "))
-			}
-		}
+	for text, want := range trial.WrongTexts(wholeText, wrongWords()) {
+		refused(t, want, text)
 	}
 }
 
@@ -552,7 +514,7 @@ func TestP701CheckAll(t *testing.T) {
 	checksAll(t, api.ErrOrder, []pod.Pod{whole(), changed(func(p *pod.Pod) { p.Owner, p.Node = "", "" })})
 	checksAll(t, api.OK, []pod.Pod{{Name: "a", Prio: 1}, {Name: "b", Prio: 2}, {Name: "c"}})
 	for _, f := range slices.Concat(faults()...) {
-		checksAll(t, f.want, []pod.Pod{changed(f.spoil)}, append(named("a"), changed(f.spoil)), append([]pod.Pod{changed(f.spoil)}, named("z", "a")...))
+		checksAll(t, f.Want, []pod.Pod{changed(f.Spoil)}, append(named("a"), changed(f.Spoil)), append([]pod.Pod{changed(f.Spoil)}, named("z", "a")...))
 	}
 }
 
