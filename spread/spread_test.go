@@ -14,20 +14,9 @@ import (
 	"ballast/res"
 	"ballast/spread"
 	"ballast/state"
-	"ballast/taint"
 	"ballast/text"
 	"ballast/trial"
 )
-
-// of reads a cluster line by line.
-func of(t *testing.T, lines ...string) state.State {
-	t.Helper()
-	s, line, e := text.Parse(strings.Join(lines, "\n"))
-	if e != api.OK {
-		t.Fatalf("%q: line %d: %v", lines, line, e)
-	}
-	return s
-}
 
 // zones: two nodes of zone x, one of y, one of z that is closed and not borne, one that has another label alone, one that has none.
 const zones = `node a - rack:r,zone:x - up
@@ -44,16 +33,6 @@ func aPod(name, owner, most, on string) string {
 
 func aWeb(name, on string) string { return aPod(name, "web", "1", on) }
 
-// known is the pod of that name.
-func known(t *testing.T, s state.State, name string) pod.Pod {
-	t.Helper()
-	p, there := pod.Find(s.Pods, name)
-	if !there {
-		t.Fatalf("%q is none", name)
-	}
-	return p
-}
-
 // newcomer is one that is not in the cluster.
 func newcomer(owner string) pod.Pod { return pod.Pod{Name: "new", Owner: owner, Key: "zone", Most: 1} }
 
@@ -65,7 +44,7 @@ func hasDomains(t *testing.T, s state.State, key string, want ...string) {
 }
 
 func TestP1101Domains(t *testing.T) {
-	s := of(t, zones)
+	s := trial.Cluster(zones)
 	hasDomains(t, s, "zone", "x", "y", "z")
 	hasDomains(t, s, "rack", "q", "r", "x")
 	// one Val of several nodes is told once, wherever they stand
@@ -78,7 +57,7 @@ func TestP1101Domains(t *testing.T) {
 	}
 	hasDomains(t, labelled(t, "b 9 aa a 10 ab"), "k", "10", "9", "a", "aa", "ab", "b")
 	// pods have labels, too, but make no domain
-	hasDomains(t, of(t, "node a - k:a - up", "pod p - 0 - k:b - - k/1 a real"), "k", "a")
+	hasDomains(t, trial.Cluster("node a - k:a - up", "pod p - 0 - k:b - - k/1 a real"), "k", "a")
 }
 
 // labelled: nodes that have these Vals of label k, one after another (none: -).
@@ -92,18 +71,18 @@ func labelled(t *testing.T, vals string) state.State {
 		}
 		lines = append(lines, "node n"+strconv.Itoa(i)+" - "+label+" - up")
 	}
-	return of(t, lines...)
+	return trial.Cluster(lines...)
 }
 
 func TestP1101DomainsOfNone(t *testing.T) {
 	for _, key := range []string{"zone", "", "x", "rac", "rackk", "zon", "ZONE", "-", "zone:x"} {
 		hasDomains(t, state.State{}, key)
 		hasDomains(t, state.State{Nodes: []node.Node{}}, key)
-		hasDomains(t, of(t, "node a - - - up", "node b - rack:x - up"), key)
-		hasDomains(t, of(t, "node a - - - up", "node b - - zone:x up"), key)
-		hasDomains(t, of(t, "pod p web 0 - zone:x - - zone/1 - real"), key)
+		hasDomains(t, trial.Cluster("node a - - - up", "node b - rack:x - up"), key)
+		hasDomains(t, trial.Cluster("node a - - - up", "node b - - zone:x up"), key)
+		hasDomains(t, trial.Cluster("pod p web 0 - zone:x - - zone/1 - real"), key)
 		if key != "zone" {
-			hasDomains(t, of(t, zones), key)
+			hasDomains(t, trial.Cluster(zones), key)
 		}
 	}
 }
@@ -119,7 +98,7 @@ func counts(t *testing.T, s state.State, p pod.Pod, want map[string]int) {
 }
 
 func TestP1101Count(t *testing.T) {
-	s := of(t, zones, aWeb("p", "a"), aWeb("q", "c"), aWeb("r", "b"), aWeb("s", "a"), aWeb("t", "-"), aPod("u", "db", "3", "a"), aPod("v", "db", "3", "e"))
+	s := trial.Cluster(zones, aWeb("p", "a"), aWeb("q", "c"), aWeb("r", "b"), aWeb("s", "a"), aWeb("t", "-"), aPod("u", "db", "3", "a"), aPod("v", "db", "3", "e"))
 	counts(t, s, newcomer("web"), map[string]int{"x": 3, "y": 1})
 	counts(t, s, newcomer("db"), map[string]int{"x": 1, "z": 1})
 	counts(t, s, newcomer("cache"), nil)
@@ -127,38 +106,38 @@ func TestP1101Count(t *testing.T) {
 	counts(t, s, newcomer("we"), nil)
 	counts(t, s, newcomer("webb"), nil)
 	counts(t, s, newcomer("p"), nil)
-	counts(t, s, known(t, s, "t"), map[string]int{"x": 3, "y": 1})
-	counts(t, s, known(t, s, "p"), map[string]int{"x": 2, "y": 1})
-	counts(t, s, known(t, s, "r"), map[string]int{"x": 3})
+	counts(t, s, trial.Known(s, "t"), map[string]int{"x": 3, "y": 1})
+	counts(t, s, trial.Known(s, "p"), map[string]int{"x": 2, "y": 1})
+	counts(t, s, trial.Known(s, "r"), map[string]int{"x": 3})
 	counts(t, state.State{}, newcomer("web"), nil)
-	counts(t, of(t, zones), newcomer("web"), nil)
-	counts(t, of(t, aWeb("p", "-")), newcomer("web"), nil)
+	counts(t, trial.Cluster(zones), newcomer("web"), nil)
+	counts(t, trial.Cluster(aWeb("p", "-")), newcomer("web"), nil)
 }
 
 // Who has no owner is beside nobody, nor is anybody beside him.
 func TestP1101CountWithoutOwner(t *testing.T) {
-	s := of(t, zones, aPod("p", "-", "1", "a"), aPod("q", "-", "1", "a"), aPod("r", "-", "1", "b"), aWeb("s", "a"))
+	s := trial.Cluster(zones, aPod("p", "-", "1", "a"), aPod("q", "-", "1", "a"), aPod("r", "-", "1", "b"), aWeb("s", "a"))
 	counts(t, s, newcomer(""), nil)
 	for _, name := range []string{"p", "q", "r"} {
-		counts(t, s, known(t, s, name), nil)
+		counts(t, s, trial.Known(s, name), nil)
 	}
 	counts(t, s, newcomer("web"), map[string]int{"x": 1})
 }
 
 // Placeholders are not counted; a real pod is, also for a placeholder.
 func TestP1101CountOfHolds(t *testing.T) {
-	s := of(t, zones, "pod h web -1 - - - - zone/1 a hold", "pod i web -1 - - - - - b hold", aWeb("p", "a"), aWeb("q", "a"))
+	s := trial.Cluster(zones, "pod h web -1 - - - - zone/1 a hold", "pod i web -1 - - - - - b hold", aWeb("p", "a"), aWeb("q", "a"))
 	counts(t, s, newcomer("web"), map[string]int{"x": 2})
-	counts(t, s, known(t, s, "p"), map[string]int{"x": 1})
-	counts(t, s, known(t, s, "h"), map[string]int{"x": 2})
-	counts(t, s, known(t, s, "i"), nil) // it has no Key
+	counts(t, s, trial.Known(s, "p"), map[string]int{"x": 1})
+	counts(t, s, trial.Known(s, "h"), map[string]int{"x": 2})
+	counts(t, s, trial.Known(s, "i"), nil) // it has no Key
 }
 
 // Of all that a pod has its Name alone tells that it is itself: wherever and however it is told anew.
 func TestP1101CountOfItself(t *testing.T) {
-	s := of(t, zones, aWeb("p", "a"), aWeb("q", "a"), aWeb("r", "b"))
+	s := trial.Cluster(zones, aWeb("p", "a"), aWeb("q", "a"), aWeb("r", "b"))
 	for _, on := range []string{"a", "b", "c", "d", "e", "nowhere", ""} {
-		p := known(t, s, "p")
+		p := trial.Known(s, "p")
 		p.Node = on
 		counts(t, s, p, map[string]int{"x": 1, "y": 1})
 		p.Prio, p.Most, p.Need, p.Labels, p.Hold = 7, 9, res.Vec{{Name: "cpu", N: 1}}, label.Set{{Key: "k", Val: "v"}}, true
@@ -167,22 +146,22 @@ func TestP1101CountOfItself(t *testing.T) {
 		counts(t, s, p, map[string]int{"x": 2, "y": 1})
 	}
 	// one who is as it is but for the Name is another one
-	p := known(t, s, "p")
+	p := trial.Known(s, "p")
 	p.Name = "o"
 	counts(t, s, p, map[string]int{"x": 2, "y": 1})
 }
 
 // What others have beside Owner, Hold, Name and Node does not matter.
 func TestP1101CountOfOthersWhateverTheyHave(t *testing.T) {
-	s := of(t, "node a cpu=9 zone:x - up", "pod p web 0 - - - - - a real", "pod q web 9 cpu=2 app:web zone:y k:v rack/9 a real", "pod r web 0 - - - - zone/9 a real", "pod s db 0 - app:web - - zone/1 a real", "budget all - 9")
+	s := trial.Cluster("node a cpu=9 zone:x - up", "pod p web 0 - - - - - a real", "pod q web 9 cpu=2 app:web zone:y k:v rack/9 a real", "pod r web 0 - - - - zone/9 a real", "pod s db 0 - app:web - - zone/1 a real", "budget all - 9")
 	counts(t, s, newcomer("web"), map[string]int{"x": 3})
-	p := known(t, s, "q")
+	p := trial.Known(s, "q")
 	p.Key = "zone"
 	counts(t, s, p, map[string]int{"x": 2})
 }
 
 func TestP1101CountOfWhoStandsInNoDomain(t *testing.T) {
-	s := of(t, zones, aWeb("p", "-"), aWeb("q", "-"), aWeb("r", "d"), aWeb("s", "f"), aWeb("t", "e"))
+	s := trial.Cluster(zones, aWeb("p", "-"), aWeb("q", "-"), aWeb("r", "d"), aWeb("s", "f"), aWeb("t", "e"))
 	counts(t, s, newcomer("web"), map[string]int{"z": 1})
 	counts(t, state.Move(s, "t", "none"), newcomer("web"), nil)
 	counts(t, state.Move(s, "t", "x"), newcomer("web"), nil)
@@ -192,7 +171,7 @@ func TestP1101CountOfWhoStandsInNoDomain(t *testing.T) {
 }
 
 func TestP1101CountByKey(t *testing.T) {
-	s := of(t, zones, aWeb("p", "a"), aWeb("q", "c"), aWeb("r", "d"), aWeb("s", "b"))
+	s := trial.Cluster(zones, aWeb("p", "a"), aWeb("q", "c"), aWeb("r", "d"), aWeb("s", "b"))
 	for key, want := range map[string]map[string]int{
 		"zone": {"x": 2, "y": 1},
 		"rack": {"r": 1, "q": 1, "x": 1},
@@ -222,9 +201,9 @@ const no = -1
 
 // Nodes that are none, or have no label p.Key, are no answer, whoever asks.
 func TestP1101SkewOfNone(t *testing.T) {
-	s := of(t, zones, aWeb("p", "a"), aWeb("q", "-"), aWeb("r", "d"), aPod("u", "-", "1", "b"), aPod("v", "db", "9", "f"), "pod h web -1 - - - - zone/1 a hold")
+	s := trial.Cluster(zones, aWeb("p", "a"), aWeb("q", "-"), aWeb("r", "d"), aPod("u", "-", "1", "b"), aPod("v", "db", "9", "f"), "pod h web -1 - - - - zone/1 a hold")
 	for _, name := range []string{"p", "q", "r", "u", "v", "h"} {
-		skews(t, s, known(t, s, name), map[string]int{"": no, "g": no, "aa": no, "A": no, "x": no, "zone": no, "p": no, "-": no, "d": no, "f": no})
+		skews(t, s, trial.Known(s, name), map[string]int{"": no, "g": no, "aa": no, "A": no, "x": no, "zone": no, "p": no, "-": no, "d": no, "f": no})
 	}
 	p := newcomer("web")
 	for _, key := range []string{"disk", "x", "zon", "zonee", "k", "-"} {
@@ -234,26 +213,26 @@ func TestP1101SkewOfNone(t *testing.T) {
 	p.Key = "rack"
 	skews(t, s, p, map[string]int{"a": 2, "b": no, "c": 0, "d": 2, "e": no, "f": no, "g": no})
 	skews(t, state.State{}, newcomer("web"), map[string]int{"": no, "a": no})
-	skews(t, of(t, "node a - - - up"), newcomer("web"), map[string]int{"": no, "a": no})
+	skews(t, trial.Cluster("node a - - - up"), newcomer("web"), map[string]int{"": no, "a": no})
 }
 
 // Who is not spread at all has 0 anywhere, also on a node that is none.
 func TestP1101SkewWithoutKey(t *testing.T) {
 	anywhere := map[string]int{"a": 0, "b": 0, "c": 0, "d": 0, "e": 0, "f": 0, "g": 0, "": 0, "A": 0}
-	s := of(t, zones, aWeb("p", "a"), aWeb("q", "a"), "pod r web 0 - - - - - a real", "pod s - 0 - - - - - - real", "pod h web -1 - - - - - d hold")
+	s := trial.Cluster(zones, aWeb("p", "a"), aWeb("q", "a"), "pod r web 0 - - - - - a real", "pod s - 0 - - - - - - real", "pod h web -1 - - - - - d hold")
 	for _, name := range []string{"r", "s", "h"} {
-		skews(t, s, known(t, s, name), anywhere)
-		skews(t, state.State{}, known(t, s, name), anywhere)
+		skews(t, s, trial.Known(s, name), anywhere)
+		skews(t, state.State{}, trial.Known(s, name), anywhere)
 	}
 	skews(t, s, pod.Pod{}, anywhere)
 }
 
 // One domain alone has the least itself, with that 1.
 func TestP1101SkewInOneDomainAlone(t *testing.T) {
-	s := of(t, "node a - zone:x - up", "node b - - - up", "node c - zone:x - up", aWeb("p", "a"), aWeb("q", "a"), aWeb("r", "c"), aWeb("s", "b"), aWeb("t", "-"))
+	s := trial.Cluster("node a - zone:x - up", "node b - - - up", "node c - zone:x - up", aWeb("p", "a"), aWeb("q", "a"), aWeb("r", "c"), aWeb("s", "b"), aWeb("t", "-"))
 	alone := map[string]int{"a": 0, "b": no, "c": 0, "d": no}
 	for _, name := range []string{"p", "q", "r", "s", "t"} {
-		skews(t, s, known(t, s, name), alone)
+		skews(t, s, trial.Known(s, name), alone)
 	}
 	skews(t, s, newcomer("web"), alone)
 	skews(t, s, newcomer("db"), alone)
@@ -262,51 +241,51 @@ func TestP1101SkewInOneDomainAlone(t *testing.T) {
 
 func TestP1101Skew(t *testing.T) {
 	// x has 3, y 1, z none
-	s := of(t, zones, aWeb("p", "a"), aWeb("q", "a"), aWeb("r", "c"), aWeb("s", "b"), aWeb("t", "-"), aWeb("u", "d"), aPod("v", "db", "1", "e"), aPod("w", "-", "1", "a"))
+	s := trial.Cluster(zones, aWeb("p", "a"), aWeb("q", "a"), aWeb("r", "c"), aWeb("s", "b"), aWeb("t", "-"), aWeb("u", "d"), aPod("v", "db", "1", "e"), aPod("w", "-", "1", "a"))
 	for _, name := range []string{"t", "u"} {
-		skews(t, s, known(t, s, name), map[string]int{"a": 4, "b": 2, "c": 4, "e": 0})
+		skews(t, s, trial.Known(s, name), map[string]int{"a": 4, "b": 2, "c": 4, "e": 0})
 	}
 	skews(t, s, newcomer("web"), map[string]int{"a": 4, "b": 2, "c": 4, "e": 0})
 	// those who stand there are not there twice, and leave where they stood
 	for _, name := range []string{"p", "q", "r"} {
-		skews(t, s, known(t, s, name), map[string]int{"a": 3, "b": 2, "c": 3, "e": 0})
+		skews(t, s, trial.Known(s, name), map[string]int{"a": 3, "b": 2, "c": 3, "e": 0})
 	}
 	// one who alone stood in y leaves nobody there
-	skews(t, s, known(t, s, "s"), map[string]int{"a": 4, "b": 1, "c": 4, "e": 1})
+	skews(t, s, trial.Known(s, "s"), map[string]int{"a": 4, "b": 1, "c": 4, "e": 1})
 	// nobody beside them
-	skews(t, s, known(t, s, "v"), map[string]int{"a": 1, "b": 1, "c": 1, "e": 1})
-	skews(t, s, known(t, s, "w"), map[string]int{"a": 1, "b": 1, "c": 1, "e": 1})
+	skews(t, s, trial.Known(s, "v"), map[string]int{"a": 1, "b": 1, "c": 1, "e": 1})
+	skews(t, s, trial.Known(s, "w"), map[string]int{"a": 1, "b": 1, "c": 1, "e": 1})
 	skews(t, s, newcomer("cache"), map[string]int{"a": 1, "b": 1, "c": 1, "e": 1})
 }
 
 // The least is that of all domains, the own one with that 1 among them.
 func TestP1101SkewOfTheLeast(t *testing.T) {
-	full := of(t, "node a - zone:x - up", "node b - zone:y - up", "node c - zone:z - up", aWeb("p", "a"), aWeb("q", "b"), aWeb("r", "c"))
+	full := trial.Cluster("node a - zone:x - up", "node b - zone:y - up", "node c - zone:z - up", aWeb("p", "a"), aWeb("q", "b"), aWeb("r", "c"))
 	skews(t, full, newcomer("web"), map[string]int{"a": 1, "b": 1, "c": 1})
-	skews(t, full, known(t, full, "p"), map[string]int{"a": 0, "b": 2, "c": 2})
-	skews(t, full, known(t, full, "r"), map[string]int{"a": 2, "b": 2, "c": 0})
-	two := of(t, "node a - zone:x - up", "node b - zone:y - up", aWeb("p", "a"), aWeb("q", "a"), aWeb("r", "a"), aWeb("s", "b"))
+	skews(t, full, trial.Known(full, "p"), map[string]int{"a": 0, "b": 2, "c": 2})
+	skews(t, full, trial.Known(full, "r"), map[string]int{"a": 2, "b": 2, "c": 0})
+	two := trial.Cluster("node a - zone:x - up", "node b - zone:y - up", aWeb("p", "a"), aWeb("q", "a"), aWeb("r", "a"), aWeb("s", "b"))
 	skews(t, two, newcomer("web"), map[string]int{"a": 3, "b": 0})
-	skews(t, two, known(t, two, "s"), map[string]int{"a": 4, "b": 0})
-	skews(t, two, known(t, two, "p"), map[string]int{"a": 2, "b": 0})
+	skews(t, two, trial.Known(two, "s"), map[string]int{"a": 4, "b": 0})
+	skews(t, two, trial.Known(two, "p"), map[string]int{"a": 2, "b": 0})
 	// its own is the least, also where another one has as many
-	even := of(t, "node a - zone:x - up", "node b - zone:y - up", aWeb("p", "a"))
+	even := trial.Cluster("node a - zone:x - up", "node b - zone:y - up", aWeb("p", "a"))
 	skews(t, even, newcomer("web"), map[string]int{"a": 2, "b": 0})
-	skews(t, even, known(t, even, "p"), map[string]int{"a": 1, "b": 1})
+	skews(t, even, trial.Known(even, "p"), map[string]int{"a": 1, "b": 1})
 }
 
 // Placeholders are not counted, but the 1 is there also for one of them.
 func TestP1101SkewOfHolds(t *testing.T) {
-	s := of(t, zones, aWeb("p", "a"), "pod h web -1 - - - - zone/1 a hold", "pod i web -1 - - - - zone/1 b hold", "pod j web -1 - - - - zone/1 e hold")
-	skews(t, s, known(t, s, "p"), map[string]int{"a": 1, "b": 1, "c": 1, "e": 1})
+	s := trial.Cluster(zones, aWeb("p", "a"), "pod h web -1 - - - - zone/1 a hold", "pod i web -1 - - - - zone/1 b hold", "pod j web -1 - - - - zone/1 e hold")
+	skews(t, s, trial.Known(s, "p"), map[string]int{"a": 1, "b": 1, "c": 1, "e": 1})
 	for _, name := range []string{"h", "i", "j"} {
-		skews(t, s, known(t, s, name), map[string]int{"a": 2, "b": 1, "c": 2, "e": 1})
+		skews(t, s, trial.Known(s, name), map[string]int{"a": 2, "b": 1, "c": 2, "e": 1})
 	}
 }
 
 // Its Most and where it stands by now change nothing of how far apart it would be.
 func TestP1101SkewWhateverMostIs(t *testing.T) {
-	s := of(t, zones, aWeb("p", "a"), aWeb("q", "c"))
+	s := trial.Cluster(zones, aWeb("p", "a"), aWeb("q", "c"))
 	for _, most := range []int{1, 2, 9, api.MaxPods} {
 		for _, on := range []string{"", "a", "b", "c", "d", "nowhere"} {
 			p := newcomer("web")
@@ -319,8 +298,8 @@ func TestP1101SkewWhateverMostIs(t *testing.T) {
 // eachCluster: four pods, each of them nowhere or on any of the nodes.
 func eachCluster(t *testing.T, yield func(s state.State)) {
 	t.Helper()
-	s := of(t, zones, aWeb("p", "-"), aWeb("q", "-"), aPod("r", "web", "2", "-"), aPod("s", "db", "1", "-"))
-	places := append(nodeNames(s), "")
+	s := trial.Cluster(zones, aWeb("p", "-"), aWeb("q", "-"), aPod("r", "web", "2", "-"), aPod("s", "db", "1", "-"))
+	places := append(trial.NodeNames(s), "")
 	for i := range len(places) * len(places) * len(places) * len(places) {
 		moved := s
 		for _, name := range []string{"p", "q", "r", "s"} {
@@ -329,14 +308,6 @@ func eachCluster(t *testing.T, yield func(s state.State)) {
 		}
 		yield(moved)
 	}
-}
-
-func nodeNames(s state.State) []string {
-	var l []string
-	for _, n := range s.Nodes {
-		l = append(l, n.Name)
-	}
-	return l
 }
 
 func TestP1101SkewIsWhatCountsTell(t *testing.T) {
@@ -374,54 +345,54 @@ func standBadly(t *testing.T, s state.State, want ...string) {
 func TestP1101BadOfNone(t *testing.T) {
 	standBadly(t, state.State{})
 	standBadly(t, state.State{Nodes: []node.Node{}, Pods: []pod.Pod{}})
-	standBadly(t, of(t, zones))
+	standBadly(t, trial.Cluster(zones))
 	// nobody stands too close
-	standBadly(t, of(t, zones, aWeb("p", "a")))
-	standBadly(t, of(t, zones, aWeb("p", "a"), aWeb("q", "b")))
-	standBadly(t, of(t, zones, aWeb("p", "a"), aWeb("q", "b"), aWeb("r", "e")))
-	standBadly(t, of(t, zones, aWeb("p", "a"), aWeb("q", "b"), aWeb("r", "e"), aWeb("s", "c")))
-	standBadly(t, of(t, zones, aWeb("p", "a"), aPod("q", "db", "1", "a"), aPod("r", "-", "1", "a"), aPod("s", "-", "1", "a")))
+	standBadly(t, trial.Cluster(zones, aWeb("p", "a")))
+	standBadly(t, trial.Cluster(zones, aWeb("p", "a"), aWeb("q", "b")))
+	standBadly(t, trial.Cluster(zones, aWeb("p", "a"), aWeb("q", "b"), aWeb("r", "e")))
+	standBadly(t, trial.Cluster(zones, aWeb("p", "a"), aWeb("q", "b"), aWeb("r", "e"), aWeb("s", "c")))
+	standBadly(t, trial.Cluster(zones, aWeb("p", "a"), aPod("q", "db", "1", "a"), aPod("r", "-", "1", "a"), aPod("s", "-", "1", "a")))
 	// one domain alone
-	standBadly(t, of(t, "node a - zone:x - up", aWeb("p", "a"), aWeb("q", "a"), aWeb("r", "a")))
+	standBadly(t, trial.Cluster("node a - zone:x - up", aWeb("p", "a"), aWeb("q", "a"), aWeb("r", "a")))
 	// nowhere
-	standBadly(t, of(t, zones, aWeb("p", "-"), aWeb("q", "-"), aWeb("r", "-"), aPod("s", "-", "1", "-")))
-	standBadly(t, of(t, aWeb("p", "-")))
+	standBadly(t, trial.Cluster(zones, aWeb("p", "-"), aWeb("q", "-"), aWeb("r", "-"), aPod("s", "-", "1", "-")))
+	standBadly(t, trial.Cluster(aWeb("p", "-")))
 	// without a Key, also where the node has no label, and where others of the owner stand
-	standBadly(t, of(t, zones, "pod p web 0 - - - - - a real", "pod q web 0 - - - - - a real", "pod r web 0 - - - - - d real", "pod s - 0 - - - - - f real", "pod h web -1 - - - - - d hold"))
+	standBadly(t, trial.Cluster(zones, "pod p web 0 - - - - - a real", "pod q web 0 - - - - - a real", "pod r web 0 - - - - - d real", "pod s - 0 - - - - - f real", "pod h web -1 - - - - - d hold"))
 	// placeholders crowd nobody
-	standBadly(t, of(t, zones, aWeb("p", "a"), "pod h web -1 - - - - - a hold", "pod i web -1 - - - - - a hold"))
+	standBadly(t, trial.Cluster(zones, aWeb("p", "a"), "pod h web -1 - - - - - a hold", "pod i web -1 - - - - - a hold"))
 }
 
 func TestP1101BadAboveMost(t *testing.T) {
 	// x has 3, y and z none: each of them has a Skew of 3
 	for most, want := range map[string][]string{"1": {"p", "q", "r"}, "2": {"p", "q", "r"}, "3": nil, "4": nil, "128": nil} {
-		standBadly(t, of(t, zones, aPod("p", "web", most, "a"), aPod("q", "web", most, "c"), aPod("r", "web", most, "a")), want...)
+		standBadly(t, trial.Cluster(zones, aPod("p", "web", most, "a"), aPod("q", "web", most, "c"), aPod("r", "web", most, "a")), want...)
 	}
 	// each by its own Most
-	standBadly(t, of(t, zones, aPod("p", "web", "3", "a"), aPod("q", "web", "2", "c"), aPod("r", "web", "128", "a")), "q")
-	standBadly(t, of(t, zones, aPod("p", "web", "1", "a"), aPod("q", "web", "2", "a")), "p")
+	standBadly(t, trial.Cluster(zones, aPod("p", "web", "3", "a"), aPod("q", "web", "2", "c"), aPod("r", "web", "128", "a")), "q")
+	standBadly(t, trial.Cluster(zones, aPod("p", "web", "1", "a"), aPod("q", "web", "2", "a")), "p")
 	// all of an owner count, also those who are not spread at all
-	standBadly(t, of(t, zones, aWeb("p", "a"), "pod q web 0 - - - - - c real"), "p")
-	standBadly(t, of(t, zones, aWeb("p", "a"), "pod q web 0 - - - - - b real"))
+	standBadly(t, trial.Cluster(zones, aWeb("p", "a"), "pod q web 0 - - - - - c real"), "p")
+	standBadly(t, trial.Cluster(zones, aWeb("p", "a"), "pod q web 0 - - - - - b real"))
 	// one more elsewhere mends it, when no domain is left with fewer
-	standBadly(t, of(t, zones, aWeb("p", "a"), aWeb("q", "a"), aWeb("r", "b")), "p", "q")
-	standBadly(t, of(t, zones, aWeb("p", "a"), aWeb("q", "a"), aWeb("r", "b"), aWeb("s", "e")))
+	standBadly(t, trial.Cluster(zones, aWeb("p", "a"), aWeb("q", "a"), aWeb("r", "b")), "p", "q")
+	standBadly(t, trial.Cluster(zones, aWeb("p", "a"), aWeb("q", "a"), aWeb("r", "b"), aWeb("s", "e")))
 	// a placeholder that is spread stands badly as others do
-	standBadly(t, of(t, zones, aWeb("p", "a"), "pod h web -1 - - - - zone/1 a hold", "pod i web -1 - - - - zone/1 b hold", "pod j web -1 - - - - zone/2 c hold"), "h")
+	standBadly(t, trial.Cluster(zones, aWeb("p", "a"), "pod h web -1 - - - - zone/1 a hold", "pod i web -1 - - - - zone/1 b hold", "pod j web -1 - - - - zone/2 c hold"), "h")
 }
 
 // Whose Skew is none: nobody else is needed there, and no Most is enough.
 func TestP1101BadWhereNoDomainIs(t *testing.T) {
-	standBadly(t, of(t, zones, aWeb("p", "d")), "p")
-	standBadly(t, of(t, zones, aPod("p", "web", "128", "f")), "p")
-	standBadly(t, of(t, zones, aPod("p", "-", "128", "d"), aPod("q", "-", "128", "e"), "pod h - -1 - - - - zone/9 f hold"), "h", "p")
-	standBadly(t, of(t, zones, "pod p web 0 - - - - disk/9 a real", "pod q web 0 - - - - rack/9 a real", "pod r web 0 - - - - rack/9 b real"), "p", "r")
-	standBadly(t, state.Move(of(t, zones, aPod("p", "web", "128", "a")), "p", "none"), "p")
-	standBadly(t, state.Move(of(t, zones, "pod p web 0 - - - - - a real"), "p", "none"))
+	standBadly(t, trial.Cluster(zones, aWeb("p", "d")), "p")
+	standBadly(t, trial.Cluster(zones, aPod("p", "web", "128", "f")), "p")
+	standBadly(t, trial.Cluster(zones, aPod("p", "-", "128", "d"), aPod("q", "-", "128", "e"), "pod h - -1 - - - - zone/9 f hold"), "h", "p")
+	standBadly(t, trial.Cluster(zones, "pod p web 0 - - - - disk/9 a real", "pod q web 0 - - - - rack/9 a real", "pod r web 0 - - - - rack/9 b real"), "p", "r")
+	standBadly(t, state.Move(trial.Cluster(zones, aPod("p", "web", "128", "a")), "p", "none"), "p")
+	standBadly(t, state.Move(trial.Cluster(zones, "pod p web 0 - - - - - a real"), "p", "none"))
 }
 
 func TestP1101BadInOrder(t *testing.T) {
-	standBadly(t, of(t, zones, aWeb("z", "a"), aWeb("b", "f"), aWeb("aa", "c"), aPod("a", "db", "9", "d"), aWeb("y", "b"), aWeb("10", "a"), aWeb("9", "-"), aPod("c", "web", "9", "a")), "10", "a", "aa", "b", "z")
+	standBadly(t, trial.Cluster(zones, aWeb("z", "a"), aWeb("b", "f"), aWeb("aa", "c"), aPod("a", "db", "9", "d"), aWeb("y", "b"), aWeb("10", "a"), aWeb("9", "-"), aPod("c", "web", "9", "a")), "10", "a", "aa", "b", "z")
 }
 
 func TestP1101BadIsWhatSkewTells(t *testing.T) {
@@ -465,61 +436,15 @@ func TestP1101AtTheLimits(t *testing.T) {
 	standBadly(t, s)
 }
 
-// withRoom is a list that has spare room with something in it.
-func withRoom[L ~[]T, T any](l L, x T) L {
-	return append(slices.Clip(l), x, x)[:len(l)]
-}
-
 // roomy: a cluster and a pod, all lists of which have spare room; what is there would be counted.
-func roomy(t *testing.T) (state.State, pod.Pod) {
-	s := of(t, zones, "node g cpu=9 zone:w a:b,c:d up", aWeb("q", "c"), aWeb("r", "a"), "pod p web 5 cpu=1 app:web zone,-gpu k,* zone/1 g real", aWeb("b", "d"), "budget low app:web 1")
-	for i := range s.Nodes {
-		n := &s.Nodes[i]
-		n.Cap, n.Labels, n.Taints = withRoom(n.Cap, res.Amount{Name: "spare", N: 1}), withRoom(n.Labels, label.Pair{Key: "zone", Val: "spare"}), withRoom(n.Taints, taint.Taint{Key: "spare"})
-	}
-	for i := range s.Pods {
-		s.Pods[i] = roomyPod(s.Pods[i])
-	}
-	for i := range s.Budgets {
-		s.Budgets[i].Sel = withRoom(s.Budgets[i].Sel, label.Term{Op: label.Has, Key: "spare"})
-	}
-	p := known(t, s, "p")
-	s.Nodes = withRoom(s.Nodes, node.Node{Name: "spare", Labels: label.Set{{Key: "zone", Val: "spare"}}})
-	s.Pods = withRoom(s.Pods, pod.Pod{Name: "spare", Owner: "web", Key: "zone", Most: 1, Node: "d"})
-	s.Budgets = withRoom(s.Budgets, budget.Budget{Name: "spare"})
-	return s, roomyPod(p)
-}
-
-func roomyPod(p pod.Pod) pod.Pod {
-	p.Need, p.Labels = withRoom(p.Need, res.Amount{Name: "spare", N: 1}), withRoom(p.Labels, label.Pair{Key: "zone", Val: "spare"})
-	p.Sel, p.Tols = withRoom(p.Sel, label.Term{Op: label.Has, Key: "spare"}), withRoom(p.Tols, taint.Tol{Key: "spare"})
-	return p
-}
-
-// withSpare has the spare room of all lists in them.
-func withSpare(s state.State) state.State {
-	s.Nodes, s.Pods, s.Budgets = slices.Clone(s.Nodes[:cap(s.Nodes)]), slices.Clone(s.Pods[:cap(s.Pods)]), slices.Clone(s.Budgets[:cap(s.Budgets)])
-	for i := range s.Nodes {
-		n := &s.Nodes[i]
-		n.Cap, n.Labels, n.Taints = n.Cap[:cap(n.Cap)], n.Labels[:cap(n.Labels)], n.Taints[:cap(n.Taints)]
-	}
-	for i := range s.Pods {
-		s.Pods[i] = podWithSpare(s.Pods[i])
-	}
-	for i := range s.Budgets {
-		s.Budgets[i].Sel = s.Budgets[i].Sel[:cap(s.Budgets[i].Sel)]
-	}
-	return s
-}
-
-func podWithSpare(p pod.Pod) pod.Pod {
-	p.Need, p.Labels, p.Sel, p.Tols = p.Need[:cap(p.Need)], p.Labels[:cap(p.Labels)], p.Sel[:cap(p.Sel)], p.Tols[:cap(p.Tols)]
-	return p
+func roomy() (state.State, pod.Pod) {
+	s := trial.Cluster(zones, "node g cpu=9 zone:w a:b,c:d up", aWeb("q", "c"), aWeb("r", "a"), "pod p web 5 cpu=1 app:web zone,-gpu k,* zone/1 g real", aWeb("b", "d"), "budget low app:web 1")
+	return trial.Roomy(s, "web", "d"), trial.RoomyPod(trial.Known(s, "p"))
 }
 
 func TestP2NothingHandedInIsChanged(t *testing.T) {
-	s, p := roomy(t)
-	before, podBefore := roomy(t)
+	s, p := roomy()
+	before, podBefore := roomy()
 	for name, call := range map[string]func(){
 		"Domains":      func() { spread.Domains(s, "zone") },
 		"Count":        func() { spread.Count(s, p, "x") },
@@ -528,7 +453,7 @@ func TestP2NothingHandedInIsChanged(t *testing.T) {
 		"Bad":          func() { spread.Bad(s) },
 	} {
 		call()
-		if !state.Same(withSpare(s), withSpare(before)) || !pod.Same(podWithSpare(p), podWithSpare(podBefore)) {
+		if !state.Same(trial.WithSpare(s), trial.WithSpare(before)) || !pod.Same(trial.PodWithSpare(p), trial.PodWithSpare(podBefore)) {
 			t.Errorf("%s: %q became %q, %q became %q", name, text.Text(before), text.Text(s), pod.Text(podBefore), pod.Text(p))
 		}
 	}
@@ -536,7 +461,7 @@ func TestP2NothingHandedInIsChanged(t *testing.T) {
 
 // Neither answer is reached by a change of another one, nor by one of what was handed in.
 func TestP2AnswersNewMemory(t *testing.T) {
-	s, _ := roomy(t)
+	s, _ := roomy()
 	domains, bad := spread.Domains(s, "zone"), spread.Bad(s)
 	trial.Overwrite(spread.Domains(s, "zone"), "mine")
 	trial.Overwrite(spread.Bad(s), "mine")
@@ -550,7 +475,7 @@ func TestP2AnswersNewMemory(t *testing.T) {
 }
 
 func TestP3SameCallsAnswerTheSame(t *testing.T) {
-	s, p := roomy(t)
+	s, p := roomy()
 	for range 3 {
 		hasDomains(t, s, "zone", "w", "x", "y", "z")
 		counts(t, s, p, map[string]int{"x": 2})
@@ -558,7 +483,7 @@ func TestP3SameCallsAnswerTheSame(t *testing.T) {
 		standBadly(t, s, "b", "q", "r")
 	}
 	// what was asked of another cluster is not kept
-	standBadly(t, of(t, zones))
+	standBadly(t, trial.Cluster(zones))
 	hasDomains(t, state.State{}, "zone")
 	counts(t, state.State{}, p, nil)
 	skews(t, state.State{}, p, map[string]int{"a": no})

@@ -743,56 +743,11 @@ func toldOf(l []list) []string {
 }
 
 // roomy: a cluster all lists of which have spare room, with something in it.
-func roomy() state.State {
-	s := whole()
-	for i := range s.Nodes {
-		n := &s.Nodes[i]
-		n.Cap, n.Labels, n.Taints = withRoom(n.Cap, amount("spare", 1)), withRoom(n.Labels, label.Pair{Key: "spare"}), withRoom(n.Taints, taint.Taint{Key: "spare"})
-	}
-	for i := range s.Pods {
-		s.Pods[i] = roomyPod(s.Pods[i])
-	}
-	for i := range s.Budgets {
-		s.Budgets[i].Sel = withRoom(s.Budgets[i].Sel, label.Term{Key: "spare"})
-	}
-	s.Nodes, s.Pods, s.Budgets = withRoom(s.Nodes, nodeNamed("spare")), withRoom(s.Pods, podNamed("spare")), withRoom(s.Budgets, budgetNamed("spare"))
-	return s
-}
-
-func roomyPod(p pod.Pod) pod.Pod {
-	p.Need, p.Labels = withRoom(p.Need, amount("spare", 1)), withRoom(p.Labels, label.Pair{Key: "spare"})
-	p.Sel, p.Tols = withRoom(p.Sel, label.Term{Key: "spare"}), withRoom(p.Tols, taint.Tol{Key: "spare"})
-	return p
-}
-
-func withRoom[L ~[]T, T any](l L, x T) L {
-	return append(slices.Clip(l), x, x)[:len(l)]
-}
-
-// withSpare is the cluster with all its lists' spare room in them.
-func withSpare(s state.State) state.State {
-	s.Nodes, s.Pods, s.Budgets = slices.Clone(s.Nodes[:cap(s.Nodes)]), slices.Clone(s.Pods[:cap(s.Pods)]), slices.Clone(s.Budgets[:cap(s.Budgets)])
-	for i := range s.Nodes {
-		n := &s.Nodes[i]
-		n.Cap, n.Labels, n.Taints = n.Cap[:cap(n.Cap)], n.Labels[:cap(n.Labels)], n.Taints[:cap(n.Taints)]
-	}
-	for i := range s.Pods {
-		s.Pods[i] = podWithSpare(s.Pods[i])
-	}
-	for i := range s.Budgets {
-		s.Budgets[i].Sel = s.Budgets[i].Sel[:cap(s.Budgets[i].Sel)]
-	}
-	return s
-}
-
-func podWithSpare(p pod.Pod) pod.Pod {
-	p.Need, p.Labels, p.Sel, p.Tols = p.Need[:cap(p.Need)], p.Labels[:cap(p.Labels)], p.Sel[:cap(p.Sel)], p.Tols[:cap(p.Tols)]
-	return p
-}
+func roomy() state.State { return trial.Roomy(whole(), "web", "a") }
 
 // comer: a pod that has all lists, each with spare room.
 func comer(name string) pod.Pod {
-	p := roomyPod(whole().Pods[0])
+	p := trial.RoomyPod(whole().Pods[0])
 	p.Name = name
 	return p
 }
@@ -831,20 +786,20 @@ func calls() map[string]func(s state.State, p pod.Pod) state.State {
 
 // What is handed in stays as it was, all its lists and their spare room too.
 func TestP2NothingHandedInIsChanged(t *testing.T) {
-	before, newcomer := told(withSpare(roomy())), pod.Text(podWithSpare(comer("qq")))
+	before, newcomer := told(trial.WithSpare(roomy())), pod.Text(trial.PodWithSpare(comer("qq")))
 	for name, call := range calls() {
 		s, p := roomy(), comer("qq")
 		call(s, p)
-		if told(withSpare(s)) != before || pod.Text(podWithSpare(p)) != newcomer {
-			t.Errorf("%s: %q became %q, %q became %q", name, before, told(withSpare(s)), newcomer, pod.Text(podWithSpare(p)))
+		if told(trial.WithSpare(s)) != before || pod.Text(trial.PodWithSpare(p)) != newcomer {
+			t.Errorf("%s: %q became %q, %q became %q", name, before, told(trial.WithSpare(s)), newcomer, pod.Text(trial.PodWithSpare(p)))
 		}
 	}
 	s := roomy()
 	state.Check(s)
 	state.Same(s, roomy())
 	state.Same(roomy(), s)
-	if told(withSpare(s)) != before {
-		t.Errorf("%q became %q", before, told(withSpare(s)))
+	if told(trial.WithSpare(s)) != before {
+		t.Errorf("%q became %q", before, told(trial.WithSpare(s)))
 	}
 }
 
@@ -861,12 +816,12 @@ func TestP2AnswersShareNothingWithWhatWasHandedIn(t *testing.T) {
 			t.Errorf("%s: %q became %q", name, was, told(made))
 		}
 		s, p = roomy(), comer("qq")
-		before, newcomer := told(withSpare(s)), pod.Text(podWithSpare(p))
+		before, newcomer := told(trial.WithSpare(s)), pod.Text(trial.PodWithSpare(p))
 		for _, l := range listsOf(call(s, p)) {
 			l.spoil()
 		}
-		if told(withSpare(s)) != before || pod.Text(podWithSpare(p)) != newcomer {
-			t.Errorf("%s: %q became %q, %q became %q", name, before, told(withSpare(s)), newcomer, pod.Text(podWithSpare(p)))
+		if told(trial.WithSpare(s)) != before || pod.Text(trial.PodWithSpare(p)) != newcomer {
+			t.Errorf("%s: %q became %q, %q became %q", name, before, told(trial.WithSpare(s)), newcomer, pod.Text(trial.PodWithSpare(p)))
 		}
 	}
 }

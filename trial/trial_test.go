@@ -2,10 +2,13 @@ package trial_test
 
 import (
 	"slices"
+	"strings"
 	"testing"
 
 	"ballast/api"
+	"ballast/pod"
 	"ballast/res"
+	"ballast/text"
 	"ballast/trial"
 )
 
@@ -77,5 +80,84 @@ func TestFaulty(t *testing.T) {
 		if x == 72 {
 			break
 		}
+	}
+}
+
+// panics: what goes out of work is a text that has this in it.
+func panics(t *testing.T, work func(), want string) {
+	t.Helper()
+	defer func() {
+		t.Helper()
+		if told, _ := recover().(string); !strings.Contains(told, want) {
+			t.Errorf("%q; want %q in it", told, want)
+		}
+	}()
+	work()
+}
+
+const oneOfEach = "node a cpu=3 zone:x k:v up\npod p web 0 cpu=1 app:web zone k zone/1 a real\nbudget low app:web 1\n"
+
+func TestCluster(t *testing.T) {
+	s := trial.Cluster("node a cpu=3 zone:x k:v up\npod p web 0 cpu=1 app:web zone k zone/1 a real", "budget low app:web 1")
+	if told := text.Text(s); told != oneOfEach {
+		t.Errorf("%q", told)
+	}
+	panics(t, func() { trial.Cluster("node a - - - up", "node b") }, "line 1: form")
+	panics(t, func() { trial.Cluster("pod p web 0 - - - - - a real") }, "line 1: name")
+}
+
+func TestKnown(t *testing.T) {
+	s := trial.Cluster(oneOfEach)
+	if p := trial.Known(s, "p"); !pod.Same(p, s.Pods[0]) {
+		t.Errorf("%q", pod.Text(p))
+	}
+	panics(t, func() { trial.Known(s, "q") }, "q")
+}
+
+func TestNodeNames(t *testing.T) {
+	if l := trial.NodeNames(trial.Cluster("node b - - - up", "node a - - - cordon")); !slices.Equal(l, []string{"a", "b"}) {
+		t.Errorf("%q", l)
+	}
+}
+
+func TestWithRoom(t *testing.T) {
+	whole := []int{1, 2, 3}
+	l := trial.WithRoom(whole[:2], 7)
+	if !slices.Equal(whole, []int{1, 2, 3}) || !slices.Equal(l, []int{1, 2}) || cap(l) < 4 || !slices.Equal(l[:4], []int{1, 2, 7, 7}) {
+		t.Errorf("%v %v", whole, l[:cap(l)])
+	}
+}
+
+// Room is where it does not tell; with it a change in it does, and it shares nothing with what it is told of.
+func TestRoomyAndWithSpare(t *testing.T) {
+	sound := trial.Cluster(oneOfEach)
+	s := trial.Roomy(sound, "web", "a")
+	before := text.Text(trial.WithSpare(s))
+	if text.Text(sound) != oneOfEach || text.Text(s) != oneOfEach || before == oneOfEach {
+		t.Errorf("%q, %q, %q", text.Text(sound), text.Text(s), before)
+	}
+	n, p, b := s.Nodes[0], s.Pods[0], s.Budgets[0]
+	for i, change := range []func(){
+		func() { s.Nodes[:2][1].Name = "mine" },
+		func() { s.Pods[:2][1].Name = "mine" },
+		func() { s.Budgets[:2][1].Name = "mine" },
+		func() { n.Cap[:2][1].Name = "mine" },
+		func() { n.Labels[:2][1].Key = "mine" },
+		func() { n.Taints[:2][1].Key = "mine" },
+		func() { p.Need[:2][1].Name = "mine" },
+		func() { p.Labels[:2][1].Key = "mine" },
+		func() { p.Sel[:2][1].Key = "mine" },
+		func() { p.Tols[:2][1].Key = "mine" },
+		func() { b.Sel[:2][1].Key = "mine" },
+	} {
+		was := trial.WithSpare(s)
+		told := text.Text(was)
+		change()
+		if text.Text(trial.WithSpare(s)) == told || text.Text(was) != told {
+			t.Errorf("change %d: %q", i, text.Text(trial.WithSpare(s)))
+		}
+	}
+	if text.Text(s) != oneOfEach {
+		t.Errorf("%q", text.Text(s))
 	}
 }
