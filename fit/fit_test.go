@@ -1,13 +1,13 @@
 package fit_test
 
 import (
+	"iter"
 	"slices"
 	"strconv"
 	"strings"
 	"testing"
 
 	"ballast/api"
-	"ballast/budget"
 	"ballast/fit"
 	"ballast/label"
 	"ballast/node"
@@ -21,15 +21,6 @@ import (
 )
 
 const greatest = 1<<63 - 1
-
-// comer is a pod that is in no cluster.
-func comer(words string) pod.Pod {
-	p, e := pod.Parse(words)
-	if e != api.OK {
-		panic(words + ": " + e.Error())
-	}
-	return p
-}
 
 // tells: of p on each node, in order, that word; by all three calls.
 func tells(t *testing.T, s state.State, p pod.Pod, want string) {
@@ -66,7 +57,7 @@ func isNone(t *testing.T, s state.State, p pod.Pod, names ...string) {
 
 func TestP1201NoSuchNode(t *testing.T) {
 	s := trial.Cluster("node a cpu=4 zone:x - up", "node b cpu=4 - k:v! cordon", "pod p web 0 cpu=1 - - - zone/1 a real", "pod q web 0 - - - - - - real", "pod h - -1 cpu=1 - - - - a hold", "budget low - 1")
-	for _, p := range []pod.Pod{trial.Known(s, "p"), trial.Known(s, "q"), trial.Known(s, "h"), comer("a - 0 - - - - - - real"), {}} {
+	for _, p := range []pod.Pod{trial.Known(s, "p"), trial.Known(s, "q"), trial.Known(s, "h"), trial.Comer("a - 0 - - - - - - real"), {}} {
 		isNone(t, s, p, "", "-", "c", "aa", "A", "a ", " a", "ab", "p", "q", "h", "low", "x", "zone", "cpu")
 		isNone(t, state.State{}, p, "", "a", "p")
 		isNone(t, trial.Cluster("pod a - 0 - - - - - - real"), p, "", "a", "p")
@@ -79,8 +70,8 @@ func TestP1201Cordoned(t *testing.T) {
 	tells(t, s, trial.Known(s, "q"), "ok sel sel ok")
 	// it is not wanted there, either, if it is there already
 	tells(t, s, trial.Known(s, "p"), "ok sel sel ok")
-	tells(t, s, comer("new - 0 cpu=4 - zone:x * zone/9 - real"), "sel sel sel ok")
-	tells(t, s, comer("new - -1 - - - * - - hold"), "ok sel sel ok")
+	tells(t, s, trial.Comer("new - 0 cpu=4 - zone:x * zone/9 - real"), "sel sel sel ok")
+	tells(t, s, trial.Comer("new - -1 - - - * - - hold"), "ok sel sel ok")
 }
 
 func TestP1201Sel(t *testing.T) {
@@ -98,9 +89,9 @@ func TestP1201Sel(t *testing.T) {
 		"zone,disk!fast":            "sel ok sel ok",
 		"zone!x,zone!y":             "sel sel ok sel",
 	} {
-		tells(t, s, comer("new web 0 - - "+sel+" - - - real"), want)
+		tells(t, s, trial.Comer("new web 0 - - "+sel+" - - - real"), want)
 		// labels of its own are none of its node's
-		tells(t, s, comer("new web 0 - disk:fast,zone:y "+sel+" - - - real"), want)
+		tells(t, s, trial.Comer("new web 0 - disk:fast,zone:y "+sel+" - - - real"), want)
 	}
 }
 
@@ -120,7 +111,7 @@ func TestP1201Taint(t *testing.T) {
 		"*":           "ok ok ok ok ok ok",
 		"a,b,c:d,*:v": "ok ok ok taint taint ok",
 	} {
-		tells(t, s, comer("new web 0 - - - "+tols+" - - real"), want)
+		tells(t, s, trial.Comer("new web 0 - - - "+tols+" - - real"), want)
 	}
 }
 
@@ -141,19 +132,19 @@ func TestP1201SkewJustMostAndAbove(t *testing.T) {
 		"4":   "ok ok skew ok skew",
 		"128": "ok ok skew ok skew",
 	} {
-		tells(t, s, comer("new web 0 - - - - zone/"+most+" - real"), want)
-		tells(t, s, comer("new web -1 - - - - zone/"+most+" - hold"), want)
+		tells(t, s, trial.Comer("new web 0 - - - - zone/"+most+" - real"), want)
+		tells(t, s, trial.Comer("new web -1 - - - - zone/"+most+" - hold"), want)
 		// one of another owner, or of none, would be ahead by 1
-		tells(t, s, comer("new db 0 - - - - zone/"+most+" - real"), "ok ok skew ok skew")
-		tells(t, s, comer("new - 0 - - - - zone/"+most+" - real"), "ok ok skew ok skew")
-		tells(t, s, comer("new web 0 - - - - rack/"+most+" - real"), "skew skew ok skew skew")
-		tells(t, s, comer("new web 0 - - - - disk/"+most+" - real"), "skew skew skew skew skew")
+		tells(t, s, trial.Comer("new db 0 - - - - zone/"+most+" - real"), "ok ok skew ok skew")
+		tells(t, s, trial.Comer("new - 0 - - - - zone/"+most+" - real"), "ok ok skew ok skew")
+		tells(t, s, trial.Comer("new web 0 - - - - rack/"+most+" - real"), "skew skew ok skew skew")
+		tells(t, s, trial.Comer("new web 0 - - - - disk/"+most+" - real"), "skew skew skew skew skew")
 	}
 }
 
 func TestP1201SkewWithoutKey(t *testing.T) {
 	s := trial.Cluster(spreadOut, "pod p web 0 - - - - zone/1 a real", "pod q web 0 - - - - zone/1 a real")
-	p := comer("new web 0 - - - - - - real")
+	p := trial.Comer("new web 0 - - - - - - real")
 	tells(t, s, p, "ok ok ok ok ok")
 	p.Most = -1
 	tells(t, s, p, "ok ok ok ok ok")
@@ -184,8 +175,8 @@ func TestP1201Room(t *testing.T) {
 		"a=1,disk=1,mem=9":   "room room room room room",
 		"disk=1,mem=9,z=1":   "room room room room room",
 	} {
-		tells(t, s, comer("new - 0 "+need+" - - - - - real"), want)
-		tells(t, s, comer("new - -1 "+need+" - - - - - hold"), want)
+		tells(t, s, trial.Comer("new - 0 "+need+" - - - - - real"), want)
+		tells(t, s, trial.Comer("new - -1 "+need+" - - - - - hold"), want)
 	}
 }
 
@@ -193,9 +184,9 @@ func TestP1201RoomOfTheGreatest(t *testing.T) {
 	most := strconv.Itoa(greatest)
 	s := trial.Cluster("node a cpu="+most+" - - up", "node b mem=1 - - up", "pod p - 0 cpu=1 - - - - a real")
 	for need, want := range map[string]string{most: "room room", strconv.Itoa(greatest - 1): "ok room", "1": "ok room"} {
-		tells(t, s, comer("new - 0 cpu="+need+" - - - - - real"), want)
+		tells(t, s, trial.Comer("new - 0 cpu="+need+" - - - - - real"), want)
 	}
-	tells(t, s, comer("p - 0 cpu="+most+" - - - - - real"), "ok room")
+	tells(t, s, trial.Comer("p - 0 cpu="+most+" - - - - - real"), "ok room")
 }
 
 // Where the others need more than there is nothing has room, not even what needs nothing.
@@ -203,7 +194,7 @@ func TestP1201NoRoomWhereFreeIsNone(t *testing.T) {
 	s := trial.Cluster("node a cpu=4,mem=4 - - up", "node b cpu=4 - - up", "pod p - 0 cpu=3 - - - - a real", "pod q - 0 cpu=3 - - - - - real", "pod r - 0 - - - - - b real")
 	over := state.Move(s, "q", "a")
 	for _, need := range []string{"-", "mem=1", "cpu=1"} {
-		p := comer("new - 0 " + need + " - - - - - real")
+		p := trial.Comer("new - 0 " + need + " - - - - - real")
 		tells(t, over, p, map[string]string{"-": "room ok", "mem=1": "room room", "cpu=1": "room ok"}[need])
 		tells(t, state.Drop(over, "p"), p, map[string]string{"-": "ok ok", "mem=1": "ok room", "cpu=1": "ok ok"}[need])
 	}
@@ -213,20 +204,11 @@ func TestP1201NoRoomWhereFreeIsNone(t *testing.T) {
 	tells(t, over, trial.Known(over, "q"), "room ok")
 	tells(t, state.Drop(over, "p"), trial.Known(over, "q"), "ok ok")
 	// what they need together cannot be told at all
-	for _, need := range []res.Vec{{{Name: "cpu", N: greatest}}, amounts("x", api.MaxList)} {
+	for _, need := range []res.Vec{{{Name: "cpu", N: greatest}}, trial.Amounts("x", api.MaxList)} {
 		untold := state.Put(s, pod.Pod{Name: "u", Need: need, Node: "a"})
-		tells(t, untold, comer("new - 0 - - - - - - real"), "room ok")
-		tells(t, untold, comer("u - 0 cpu=1 - - - - - real"), "ok ok")
+		tells(t, untold, trial.Comer("new - 0 - - - - - - real"), "room ok")
+		tells(t, untold, trial.Comer("u - 0 cpu=1 - - - - - real"), "ok ok")
 	}
-}
-
-// amounts: that many of 1, with names that begin so.
-func amounts(begin string, count int) res.Vec {
-	var v res.Vec
-	for i := range count {
-		v = append(v, res.Amount{Name: begin + strconv.Itoa(i), N: 1})
-	}
-	return v
 }
 
 // asked is what Fit is asked.
@@ -318,21 +300,21 @@ func TestP1201AsIfNowhere(t *testing.T) {
 	tells(t, s, trial.Known(s, "p"), "ok skew room")
 	tells(t, s, trial.Known(s, "q"), "skew ok ok")
 	for need, want := range map[string]string{"-": "ok ok ok", "cpu=2": "ok ok ok", "cpu=3": "ok ok room", "cpu=4": "ok room room", "cpu=5": "room room room", "mem=1": "room room room"} {
-		tells(t, s, comer("p db 0 "+need+" - - - - - real"), want)
-		tells(t, s, comer("p db 0 "+need+" - - - - a real"), want)
-		tells(t, s, comer("p db 0 "+need+" - - - - b real"), want)
-		tells(t, s, comer("p db 0 "+need+" - - - - nowhere real"), want)
-		tells(t, s, comer("p db -1 "+need+" - - - - a hold"), want)
+		tells(t, s, trial.Comer("p db 0 "+need+" - - - - - real"), want)
+		tells(t, s, trial.Comer("p db 0 "+need+" - - - - a real"), want)
+		tells(t, s, trial.Comer("p db 0 "+need+" - - - - b real"), want)
+		tells(t, s, trial.Comer("p db 0 "+need+" - - - - nowhere real"), want)
+		tells(t, s, trial.Comer("p db -1 "+need+" - - - - a hold"), want)
 	}
 	for need, want := range map[string]string{"-": "ok ok ok", "cpu=3": "room ok room", "cpu=4": "room ok room", "cpu=5": "room room room"} {
-		tells(t, s, comer("q db 0 "+need+" - - - - - real"), want)
+		tells(t, s, trial.Comer("q db 0 "+need+" - - - - - real"), want)
 	}
 	// one of another Name has both of them beside it
 	for need, want := range map[string]string{"-": "ok ok ok", "cpu=1": "room ok ok", "cpu=3": "room ok room", "cpu=4": "room room room"} {
-		tells(t, s, comer("pp db 0 "+need+" - - - - a real"), want)
+		tells(t, s, trial.Comer("pp db 0 "+need+" - - - - a real"), want)
 	}
-	tells(t, s, comer("pp web 0 - - - - zone/1 a real"), "skew skew ok")
-	tells(t, s, comer("p web 0 - - - - zone/1 - real"), "ok skew ok")
+	tells(t, s, trial.Comer("pp web 0 - - - - zone/1 a real"), "skew skew ok")
+	tells(t, s, trial.Comer("p web 0 - - - - zone/1 - real"), "ok skew ok")
 }
 
 // Where it stands alone makes a node too full, or cannot be told, it is as if it were nowhere there, too.
@@ -340,9 +322,9 @@ func TestP1201AsIfNowhereWhereItIsTooMuch(t *testing.T) {
 	s := trial.Cluster("node a cpu=4 - - up", "node b cpu=9 - - up", "pod o - 0 cpu=1 - - - - a real", "pod p - 0 cpu=9 - - - - - real")
 	over := state.Move(s, "p", "a")
 	tells(t, over, trial.Known(over, "p"), "room ok")
-	tells(t, over, comer("p - 0 cpu=3 - - - - - real"), "ok ok")
-	tells(t, over, comer("p - 0 - - - - - - real"), "ok ok")
-	tells(t, over, comer("o - 0 - - - - - - real"), "room ok")
+	tells(t, over, trial.Comer("p - 0 cpu=3 - - - - - real"), "ok ok")
+	tells(t, over, trial.Comer("p - 0 - - - - - - real"), "ok ok")
+	tells(t, over, trial.Comer("o - 0 - - - - - - real"), "room ok")
 }
 
 // Budgets, priorities and labels of pods do not bear on it.
@@ -368,11 +350,11 @@ func TestP1201Nodes(t *testing.T) {
 		"p - 0 cpu=1 - - - zone/1 c real":  {"10", "a", "b", "c"},
 		"p - -1 cpu=2 - zone:x - - - hold": {"10", "b"},
 	} {
-		if l := fit.Nodes(s, comer(words)); !slices.Equal(l, want) {
+		if l := fit.Nodes(s, trial.Comer(words)); !slices.Equal(l, want) {
 			t.Errorf("%q: %q; want %q", words, l, want)
 		}
 	}
-	if l := fit.Nodes(state.State{}, comer("p - 0 - - - - - - real")); len(l) != 0 {
+	if l := fit.Nodes(state.State{}, trial.Comer("p - 0 - - - - - - real")); len(l) != 0 {
 		t.Errorf("%q", l)
 	}
 }
@@ -388,38 +370,31 @@ func TestP1201Why(t *testing.T) {
 		"new web 0 - - zone:z * - - real":        {api.ErrSel, api.ErrSel, api.ErrSel, api.ErrSel, api.ErrSel, api.ErrSel},
 		"new web -1 cpu=2 - -zone k:v - - hold":  {api.OK, api.ErrSel, api.ErrSel, api.ErrSel, api.ErrSel, api.ErrSel},
 	} {
-		if l := fit.Why(s, comer(words)); !slices.Equal(l, want) {
+		if l := fit.Why(s, trial.Comer(words)); !slices.Equal(l, want) {
 			t.Errorf("%q: %v; want %v", words, l, want)
 		}
 	}
-	if l := fit.Why(state.State{}, comer("new web 0 - - - - - - real")); len(l) != 0 {
+	if l := fit.Why(state.State{}, trial.Comer("new web 0 - - - - - - real")); len(l) != 0 {
 		t.Errorf("%v", l)
 	}
-	if l := fit.Why(trial.Cluster("pod p - 0 - - - - - - real"), comer("p - 0 - - - - - - real")); len(l) != 0 {
+	if l := fit.Why(trial.Cluster("pod p - 0 - - - - - - real"), trial.Comer("p - 0 - - - - - - real")); len(l) != 0 {
 		t.Errorf("%v", l)
 	}
 }
 
-// eachCluster: four pods, each of them nowhere or on any of the nodes, wherever there is room.
-func eachCluster(yield func(s state.State)) {
+// eachCluster: four pods, each of them nowhere or on any of the nodes, with room or without.
+func eachCluster() iter.Seq[state.State] {
 	s := trial.Cluster("node a cpu=3,mem=1 zone:x - up", "node b cpu=4 disk:fast,zone:y k:v! up", "node c cpu=2 zone:x k:v up", "node d cpu=9 - - up", "node e cpu=9 zone:z - cordon",
 		"pod p web 0 cpu=1 - - * zone/1 - real", "pod q web 0 cpu=2 - -disk k zone/2 - real", "pod r web -1 cpu=2 - zone - - - hold", "pod s db 5 cpu=1,mem=1 - - *:v - - real")
-	places := append(trial.NodeNames(s), "")
-	for i := range len(places) * len(places) * len(places) * len(places) {
-		moved := s
-		for _, name := range []string{"p", "q", "r", "s"} {
-			moved = state.Move(moved, name, places[i%len(places)])
-			i /= len(places)
-		}
-		if state.Check(moved) == api.OK {
-			yield(moved)
-		}
-	}
+	return trial.Placings(s)
 }
 
 // In a sound cluster a pod fits where it would stand well if it were there, and the cluster be sound.
 func TestP1201IsWhatBeingThereTells(t *testing.T) {
-	eachCluster(func(s state.State) {
+	for s := range eachCluster() {
+		if state.Check(s) != api.OK {
+			continue
+		}
 		for _, p := range s.Pods {
 			var want []string
 			for _, n := range s.Nodes {
@@ -427,7 +402,7 @@ func TestP1201IsWhatBeingThereTells(t *testing.T) {
 			}
 			tells(t, s, p, strings.Join(want, " "))
 		}
-	})
+	}
 }
 
 func beingThere(s state.State, p pod.Pod, n node.Node) api.Errno {
@@ -448,7 +423,7 @@ func beingThere(s state.State, p pod.Pod, n node.Node) api.Errno {
 func TestP1201AtTheLimits(t *testing.T) {
 	var s state.State
 	for i := range api.MaxNodes {
-		s.Nodes = append(s.Nodes, node.Node{Name: "n" + strconv.Itoa(100+i), Cap: amounts("x", api.MaxList), Labels: label.Set{{Key: "zone", Val: "v" + strconv.Itoa(i)}}})
+		s.Nodes = append(s.Nodes, node.Node{Name: "n" + strconv.Itoa(100+i), Cap: trial.Amounts("x", api.MaxList), Labels: label.Set{{Key: "zone", Val: "v" + strconv.Itoa(i)}}})
 	}
 	for i := range api.MaxPods {
 		s.Pods = append(s.Pods, pod.Pod{Name: "p" + strconv.Itoa(1000+i), Owner: "web", Key: "zone", Most: 1, Node: s.Nodes[i%api.MaxNodes].Name})
@@ -458,11 +433,11 @@ func TestP1201AtTheLimits(t *testing.T) {
 	}
 	// one that goes leaves its own domain behind all others
 	p := s.Pods[5]
-	p.Need = amounts("x", api.MaxList)
+	p.Need = trial.Amounts("x", api.MaxList)
 	tells(t, s, p, strings.Repeat("skew ", 5)+"ok"+strings.Repeat(" skew", api.MaxNodes-6))
 	p.Most = 2
 	tells(t, s, p, strings.Repeat("ok ", api.MaxNodes))
-	s = state.Put(s, pod.Pod{Name: "p1000", Owner: "db", Need: amounts("x", 1), Node: "n131"})
+	s = state.Put(s, pod.Pod{Name: "p1000", Owner: "db", Need: trial.Amounts("x", 1), Node: "n131"})
 	tells(t, s, p, "ok "+strings.Repeat("ok ", api.MaxNodes-2)+"room")
 }
 
@@ -514,25 +489,15 @@ func TestP3SameCallsAnswerTheSame(t *testing.T) {
 		isNone(t, s, p, "g", "")
 		// what was asked of another cluster, or of another pod, is not kept
 		tells(t, state.State{}, p, "")
-		tells(t, s, comer("p - 0 - - - - - - real"), "ok taint ok sel ok")
+		tells(t, s, trial.Comer("p - 0 - - - - - - real"), "ok taint ok sel ok")
 		tells(t, state.Drop(s, "o"), p, "ok ok sel sel ok")
 	}
 }
 
 // Whatever plain data is given, no call goes out by a panic, also where state.Check or pod.Check refuses it.
 func TestP1EveryCallEnds(t *testing.T) {
-	wild := pod.Pod{Name: "\xff", Owner: "\xff", Prio: -1 << 63, Need: res.Vec{{Name: "\xff", N: -1 << 63}, {}, {N: greatest}}, Labels: make(label.Set, 1000), Sel: label.Sel{{Op: -7}, {Op: label.Is}}, Tols: make([]taint.Tol, 1000), Key: "\xff", Most: -1 << 63, Node: "\xff", Hold: true}
-	tame := pod.Pod{Owner: "\xff", Need: res.Vec{{Name: "cpu", N: greatest}}, Key: "\xff", Most: greatest, Node: "\xff"}
-	nodes := []node.Node{{}, {Name: "\xff", Cap: res.Vec{{Name: "cpu", N: -1}, {N: -1 << 63}}, Labels: label.Set{{Key: "\xff"}, {}}}, {Name: "\xff", Cap: make(res.Vec, 1000), Taints: make([]taint.Taint, 1000)}, {Labels: make(label.Set, 1000)}, {Name: "a", Cap: res.Vec{{Name: "cpu", N: greatest}}, Taints: []taint.Taint{{Hard: true}, {Hard: true}}}}
-	for _, s := range []state.State{
-		{},
-		{Nodes: nodes},
-		{Pods: []pod.Pod{wild, tame, {}}},
-		{Nodes: nodes, Pods: []pod.Pod{wild, tame, tame, wild, {}, {Key: "\xff"}, {Node: "\xff"}, {Name: "a", Node: "a", Need: res.Vec{{Name: "cpu", N: -5}}}}},
-		{Nodes: slices.Repeat(nodes, 50), Pods: slices.Repeat([]pod.Pod{tame, wild}, 30)},
-		{Nodes: make([]node.Node, 300), Pods: make([]pod.Pod, 300), Budgets: make([]budget.Budget, 300)},
-	} {
-		for _, p := range []pod.Pod{{}, wild, tame, {Name: "a", Key: "\xff", Owner: "\xff"}} {
+	for _, s := range trial.WildClusters() {
+		for _, p := range trial.WildPods() {
 			for _, name := range []string{"", "\xff", "a", strings.Repeat("a", 1<<20)} {
 				fit.Fit(s, p, name)
 			}

@@ -1,6 +1,7 @@
 package spread_test
 
 import (
+	"iter"
 	"slices"
 	"strconv"
 	"strings"
@@ -296,28 +297,18 @@ func TestP1101SkewWhateverMostIs(t *testing.T) {
 }
 
 // eachCluster: four pods, each of them nowhere or on any of the nodes.
-func eachCluster(t *testing.T, yield func(s state.State)) {
-	t.Helper()
-	s := trial.Cluster(zones, aWeb("p", "-"), aWeb("q", "-"), aPod("r", "web", "2", "-"), aPod("s", "db", "1", "-"))
-	places := append(trial.NodeNames(s), "")
-	for i := range len(places) * len(places) * len(places) * len(places) {
-		moved := s
-		for _, name := range []string{"p", "q", "r", "s"} {
-			moved = state.Move(moved, name, places[i%len(places)])
-			i /= len(places)
-		}
-		yield(moved)
-	}
+func eachCluster() iter.Seq[state.State] {
+	return trial.Placings(trial.Cluster(zones, aWeb("p", "-"), aWeb("q", "-"), aPod("r", "web", "2", "-"), aPod("s", "db", "1", "-")))
 }
 
 func TestP1101SkewIsWhatCountsTell(t *testing.T) {
-	eachCluster(t, func(s state.State) {
+	for s := range eachCluster() {
 		for _, p := range s.Pods {
 			for _, n := range s.Nodes {
 				skews(t, s, p, map[string]int{n.Name: toldByCounts(s, p, n)})
 			}
 		}
-	})
+	}
 }
 
 func toldByCounts(s state.State, p pod.Pod, n node.Node) int {
@@ -396,7 +387,7 @@ func TestP1101BadInOrder(t *testing.T) {
 }
 
 func TestP1101BadIsWhatSkewTells(t *testing.T) {
-	eachCluster(t, func(s state.State) {
+	for s := range eachCluster() {
 		var want []string
 		for _, p := range s.Pods {
 			skew, there := spread.Skew(s, p, p.Node)
@@ -405,7 +396,7 @@ func TestP1101BadIsWhatSkewTells(t *testing.T) {
 			}
 		}
 		standBadly(t, s, want...)
-	})
+	}
 }
 
 // At the limits: all nodes, each a domain of its own, and all pods.

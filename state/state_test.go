@@ -109,15 +109,6 @@ func changed(change func(s *state.State)) state.State {
 	return s
 }
 
-// amounts: that many of 1, with names that begin so.
-func amounts(begin string, count int) res.Vec {
-	var v res.Vec
-	for i := range count {
-		v = append(v, amount(begin+strconv.Itoa(i), 1))
-	}
-	return v
-}
-
 func amount(name string, n int64) res.Amount { return res.Amount{Name: name, N: n} }
 
 func only(name string, n int64) res.Vec { return res.Vec{amount(name, n)} }
@@ -289,17 +280,17 @@ func faults() [][]trial.Fault[state.State] {
 		},
 		{
 			wrong(api.ErrOver, func(s *state.State) { s.Pods[0].Need = only("cpu", greatest) }),
-			wrong(api.ErrLong, func(s *state.State) { s.Pods[0].Need = amounts("k", 8) }),
+			wrong(api.ErrLong, func(s *state.State) { s.Pods[0].Need = trial.Amounts("k", 8) }),
 			wrong(api.ErrRoom, func(s *state.State) { s.Pods[0].Need = only("cpu", 9) }),
 		},
 		{
 			wrong(api.ErrOver, func(s *state.State) { s.Pods[2].Need, s.Pods[3] = only("cpu", 1), onB(only("cpu", greatest)) }),
-			wrong(api.ErrLong, func(s *state.State) { s.Pods[2].Need, s.Pods[3] = only("cpu", 1), onB(amounts("k", 8)) }),
+			wrong(api.ErrLong, func(s *state.State) { s.Pods[2].Need, s.Pods[3] = only("cpu", 1), onB(trial.Amounts("k", 8)) }),
 			wrong(api.ErrRoom, func(s *state.State) { s.Pods[2].Need = only("cpu", 8) }),
 		},
 		{
 			wrong(api.ErrOver, func(s *state.State) { s.Nodes[2].Cap = only("cpu", greatest) }),
-			wrong(api.ErrLong, func(s *state.State) { s.Nodes[2].Cap = amounts("k", 8) }),
+			wrong(api.ErrLong, func(s *state.State) { s.Nodes[2].Cap = trial.Amounts("k", 8) }),
 		},
 	}
 }
@@ -357,8 +348,8 @@ func TestP901UsedAndFreeOfTooMuch(t *testing.T) {
 	uses(t, state.Move(s, "p", "z"), "z", "- name", "- name")
 	uses(t, state.Put(s, pod.Pod{Name: "o", Need: only("cpu", greatest), Node: "a"}), "a", "- over", "- over")
 	uses(t, state.Put(s, pod.Pod{Name: "o", Need: only("cpu", greatest-3), Node: "a"}), "a", "cpu=9223372036854775807 ok", "- over")
-	uses(t, state.Put(s, pod.Pod{Name: "o", Need: amounts("k", 8), Node: "a"}), "a", "- long", "- long")
-	uses(t, state.Put(s, pod.Pod{Name: "o", Need: amounts("k", 7), Node: "a"}), "a", "cpu=3,k0=1,k1=1,k2=1,k3=1,k4=1,k5=1,k6=1 ok", "- over")
+	uses(t, state.Put(s, pod.Pod{Name: "o", Need: trial.Amounts("k", 8), Node: "a"}), "a", "- long", "- long")
+	uses(t, state.Put(s, pod.Pod{Name: "o", Need: trial.Amounts("k", 7), Node: "a"}), "a", "cpu=3,k0=1,k1=1,k2=1,k3=1,k4=1,k5=1,k6=1 ok", "- over")
 }
 
 // The Needs are added from the first pod on: the error of the first one with which there is one.
@@ -370,7 +361,7 @@ func TestP901UsedTellsTheFirstError(t *testing.T) {
 		}
 		return s
 	}
-	one, most, kinds := only("cpu", 1), only("cpu", greatest), amounts("k", 8)
+	one, most, kinds := only("cpu", 1), only("cpu", greatest), trial.Amounts("k", 8)
 	for _, c := range []struct {
 		s    state.State
 		want string
@@ -381,7 +372,7 @@ func TestP901UsedTellsTheFirstError(t *testing.T) {
 		// of one pod what is too great is ahead of too many
 		{needs(one, append(slices.Clone(most), kinds[:7]...)), "- over"},
 		{needs(one, append(slices.Clone(most), kinds[:7]...), kinds), "- over"},
-		{needs(amounts("a", 2), append(slices.Clone(one), kinds[:7]...)), "- long"},
+		{needs(trial.Amounts("a", 2), append(slices.Clone(one), kinds[:7]...)), "- long"},
 	} {
 		uses(t, c.s, "a", c.want, c.want)
 		if e := state.Check(c.s).Error(); "- "+e != c.want {

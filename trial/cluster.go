@@ -1,6 +1,7 @@
 package trial
 
 import (
+	"iter"
 	"slices"
 	"strconv"
 	"strings"
@@ -34,6 +35,24 @@ func Known(s state.State, name string) pod.Pod {
 	return p
 }
 
+// Comer reads a pod that is in no cluster; words that are none are a fault of the test's own.
+func Comer(words string) pod.Pod {
+	p, e := pod.Parse(words)
+	if e != api.OK {
+		panic(words + ": " + e.Error())
+	}
+	return p
+}
+
+// Amounts: that many of 1, with names that begin so.
+func Amounts(begin string, count int) res.Vec {
+	var v res.Vec
+	for i := range count {
+		v = append(v, res.Amount{Name: begin + strconv.Itoa(i), N: 1})
+	}
+	return v
+}
+
 // NodeNames are those of all nodes, in order.
 func NodeNames(s state.State) []string {
 	var l []string
@@ -41,6 +60,27 @@ func NodeNames(s state.State) []string {
 		l = append(l, n.Name)
 	}
 	return l
+}
+
+// Placings are the clusters that have each pod of s nowhere or on any of its nodes, with room there or without.
+func Placings(s state.State) iter.Seq[state.State] {
+	return func(yield func(state.State) bool) {
+		places := append(NodeNames(s), "")
+		count := 1
+		for range s.Pods {
+			count *= len(places)
+		}
+		for i := range count {
+			moved := s
+			for _, p := range s.Pods {
+				moved = state.Move(moved, p.Name, places[i%len(places)])
+				i /= len(places)
+			}
+			if !yield(moved) {
+				return
+			}
+		}
+	}
 }
 
 // WithRoom is a list that has spare room with something in it.

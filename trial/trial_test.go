@@ -8,6 +8,7 @@ import (
 	"ballast/api"
 	"ballast/pod"
 	"ballast/res"
+	"ballast/state"
 	"ballast/text"
 	"ballast/trial"
 )
@@ -114,9 +115,52 @@ func TestKnown(t *testing.T) {
 	panics(t, func() { trial.Known(s, "q") }, "q")
 }
 
+func TestComer(t *testing.T) {
+	if p := trial.Comer("p web 0 cpu=1 - - - - - real"); pod.Text(p) != "p web 0 cpu=1 - - - - - real" {
+		t.Errorf("%q", pod.Text(p))
+	}
+	panics(t, func() { trial.Comer("p web") }, "p web: form")
+}
+
+func TestAmounts(t *testing.T) {
+	if told := res.Text(trial.Amounts("x", 3)); told != "x0=1,x1=1,x2=1" || len(trial.Amounts("x", 0)) != 0 {
+		t.Errorf("%q", told)
+	}
+}
+
 func TestNodeNames(t *testing.T) {
 	if l := trial.NodeNames(trial.Cluster("node b - - - up", "node a - - - cordon")); !slices.Equal(l, []string{"a", "b"}) {
 		t.Errorf("%q", l)
+	}
+}
+
+func TestPlacings(t *testing.T) {
+	s := trial.Cluster("node a - - - up", "node b - - - up", "pod p - 0 - - - - - b real", "pod q - 0 - - - - - - real")
+	var told []string
+	for moved := range trial.Placings(s) {
+		told = append(told, trial.Known(moved, "p").Node+"/"+trial.Known(moved, "q").Node)
+	}
+	if !slices.Equal(told, []string{"a/a", "b/a", "/a", "a/b", "b/b", "/b", "a/", "b/", "/"}) {
+		t.Errorf("%q", told)
+	}
+	for moved := range trial.Placings(s) {
+		if trial.Known(moved, "p").Node == "b" {
+			break
+		}
+	}
+}
+
+// What is wild no check takes, but for the cluster that has nothing.
+func TestWild(t *testing.T) {
+	for i, s := range trial.WildClusters() {
+		if (state.Check(s) == api.OK) != (i == 0) {
+			t.Errorf("cluster %d: %v", i, state.Check(s))
+		}
+	}
+	for i, p := range trial.WildPods() {
+		if pod.Check(p) == api.OK {
+			t.Errorf("pod %d", i)
+		}
 	}
 }
 
