@@ -1,4 +1,4 @@
-// Package catch: errors that go out of loops by a panic, recovered at a layer's face.
+// Package catch: what goes out of loops by a panic, recovered at a layer's face.
 package catch
 
 import "ballast/api"
@@ -19,4 +19,15 @@ func Sound[T any](made T, e api.Errno) T {
 		panic(e)
 	}
 	return made
+}
+
+// Found answers the T that goes out of seek by a panic; a false tells that seek came to its end, so that there is none.
+func Found[T any](seek func()) (found T, there bool) {
+	defer func() {
+		if r := recover(); r != nil {
+			found, there = r.(T), true
+		}
+	}()
+	seek()
+	return found, false
 }

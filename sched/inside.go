@@ -16,18 +16,7 @@ func owned(s state.State) state.State {
 
 func isSettled(p pod.Pod) bool { return p.Node != "" || p.Hold }
 
-// found answers what goes out of seek.
-func found(s state.State, pack bool) (b Bound, there bool) {
-	defer func() {
-		if r := recover(); r != nil {
-			b, there = r.(Bound), true
-		}
-	}()
-	seek(s, pack)
-	return Bound{}, false
-}
-
-// seek panics with the first pod that has a node: who calls it recovers that.
+// seek panics with the first pod that has a node: who calls it is inside of catch.Found.
 func seek(s state.State, pack bool) {
 	for _, p := range Pending(s) {
 		if to, there := score.Choose(s, p, pack); there {

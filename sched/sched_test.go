@@ -8,7 +8,6 @@ import (
 	"testing"
 
 	"ballast/api"
-	"ballast/budget"
 	"ballast/fit"
 	"ballast/label"
 	"ballast/node"
@@ -17,7 +16,6 @@ import (
 	"ballast/sched"
 	"ballast/score"
 	"ballast/state"
-	"ballast/taint"
 	"ballast/text"
 	"ballast/trial"
 )
@@ -440,31 +438,6 @@ func TestP2NothingHandedInIsChanged(t *testing.T) {
 	tellsRoomy(t, s)
 }
 
-// spoilPods writes into all of a list of pods, and into all lists of these.
-func spoilPods(l []pod.Pod) {
-	for _, p := range l {
-		trial.Overwrite(p.Need, res.Amount{Name: "mine", N: 1})
-		trial.Overwrite(p.Labels, label.Pair{Key: "mine"})
-		trial.Overwrite(p.Sel, label.Term{Key: "mine"})
-		trial.Overwrite(p.Tols, taint.Tol{Key: "mine"})
-	}
-	trial.Overwrite(l, pod.Pod{Name: "mine"})
-}
-
-func spoil(s state.State) {
-	spoilPods(s.Pods)
-	for _, n := range s.Nodes {
-		trial.Overwrite(n.Cap, res.Amount{Name: "mine", N: 1})
-		trial.Overwrite(n.Labels, label.Pair{Key: "mine"})
-		trial.Overwrite(n.Taints, taint.Taint{Key: "mine"})
-	}
-	trial.Overwrite(s.Nodes, node.Node{Name: "mine"})
-	for _, b := range s.Budgets {
-		trial.Overwrite(b.Sel, label.Term{Key: "mine"})
-	}
-	trial.Overwrite(s.Budgets, budget.Budget{Name: "mine"})
-}
-
 // restful: clusters in which there is something to do, nothing, and not even a pod.
 func restful() []state.State {
 	done, _ := sched.All(roomy(), false)
@@ -477,9 +450,9 @@ func TestP2AnswersNewMemory(t *testing.T) {
 		pending := state.State{Pods: sched.Pending(s)}
 		made, l := sched.All(s, false)
 		told := text.Text(pending) + text.Text(made) + saidAll(l)
-		spoilPods(sched.Pending(s))
+		trial.SpoilPods(sched.Pending(s))
 		again, more := sched.All(s, false)
-		spoil(again)
+		trial.Spoil(again)
 		if saidAll(more) != saidAll(l) {
 			t.Errorf("%q; want %q", saidAll(more), saidAll(l))
 		}
@@ -487,7 +460,7 @@ func TestP2AnswersNewMemory(t *testing.T) {
 		if !state.Same(trial.WithSpare(s), trial.WithSpare(restful()[i])) {
 			t.Errorf("%q became %q", text.Text(restful()[i]), text.Text(s))
 		}
-		spoil(s)
+		trial.Spoil(s)
 		if got := text.Text(pending) + text.Text(made) + saidAll(l); got != told {
 			t.Errorf("%q became %q", told, got)
 		}
@@ -502,7 +475,7 @@ func TestP2AnswersShareNothing(t *testing.T) {
 	made, _ := sched.All(s, false)
 	for _, l := range [][]pod.Pod{sched.Pending(s), made.Pods} {
 		was := pod.Text(l[1])
-		spoilPods(l[:1:1])
+		trial.SpoilPods(l[:1:1])
 		if pod.Text(l[1]) != was {
 			t.Errorf("%q became %q", was, pod.Text(l[1]))
 		}

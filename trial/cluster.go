@@ -142,3 +142,29 @@ func PodWithSpare(p pod.Pod) pod.Pod {
 }
 
 func whole[L ~[]T, T any](l L) L { return slices.Clone(l[:cap(l)]) }
+
+// Spoil writes into all lists of a cluster, their spare room too.
+func Spoil(s state.State) {
+	SpoilPods(s.Pods)
+	for _, n := range s.Nodes {
+		Overwrite(n.Cap, res.Amount{Name: "mine", N: 1})
+		Overwrite(n.Labels, label.Pair{Key: "mine"})
+		Overwrite(n.Taints, taint.Taint{Key: "mine"})
+	}
+	for _, b := range s.Budgets {
+		Overwrite(b.Sel, label.Term{Key: "mine"})
+	}
+	Overwrite(s.Nodes, node.Node{Name: "mine"})
+	Overwrite(s.Budgets, budget.Budget{Name: "mine"})
+}
+
+// SpoilPods writes into all of a list of pods, and into all lists of these.
+func SpoilPods(l []pod.Pod) {
+	for _, p := range l {
+		Overwrite(p.Need, res.Amount{Name: "mine", N: 1})
+		Overwrite(p.Labels, label.Pair{Key: "mine"})
+		Overwrite(p.Sel, label.Term{Key: "mine"})
+		Overwrite(p.Tols, taint.Tol{Key: "mine"})
+	}
+	Overwrite(l, pod.Pod{Name: "mine"})
+}

@@ -205,3 +205,27 @@ func TestRoomyAndWithSpare(t *testing.T) {
 		t.Errorf("%q", text.Text(s))
 	}
 }
+
+// All lists are written into, those within others and their spare room, too.
+func TestSpoil(t *testing.T) {
+	s := trial.Roomy(trial.Cluster(oneOfEach), "web", "a")
+	n, p, b := s.Nodes[0], s.Pods[0], s.Budgets[0]
+	trial.Spoil(s)
+	for i, written := range []bool{
+		s.Nodes[0].Name == "mine" && s.Nodes[:2][1].Name == "mine",
+		s.Pods[0].Name == "mine" && s.Pods[:2][1].Name == "mine",
+		s.Budgets[0].Name == "mine" && s.Budgets[:2][1].Name == "mine",
+		n.Cap[0].Name == "mine" && n.Cap[:2][1].Name == "mine",
+		n.Labels[0].Key == "mine" && n.Labels[:2][1].Key == "mine",
+		n.Taints[0].Key == "mine" && n.Taints[:2][1].Key == "mine",
+		p.Need[0].Name == "mine" && p.Need[:2][1].Name == "mine",
+		p.Labels[0].Key == "mine" && p.Labels[:2][1].Key == "mine",
+		p.Sel[0].Key == "mine" && p.Sel[:2][1].Key == "mine",
+		p.Tols[0].Key == "mine" && p.Tols[:2][1].Key == "mine",
+		b.Sel[0].Key == "mine" && b.Sel[:2][1].Key == "mine",
+	} {
+		if !written {
+			t.Errorf("list %d", i)
+		}
+	}
+}
