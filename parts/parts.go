@@ -2,6 +2,7 @@
 package parts
 
 import (
+	"iter"
 	"strconv"
 	"strings"
 
@@ -48,13 +49,44 @@ func Parse[L ~[]T, T any](s string, read func(part string) T, check func(L) api.
 func Join(words ...string) string { return strings.Join(words, blank) }
 
 // Words answers so many words of s, with a blank between each two; of two blanks together there is an empty word between.
-func Words(s string, count int) []string {
-	// One word too many is enough to be refused, however many there are.
+func Words(s string, count int) []string { return split(s, blank, count) }
+
+// AtLeast answers the first words of s, so many, and those behind, of which there may be none.
+func AtLeast(s string, count int) (first []string, behind iter.Seq[string]) {
 	words := strings.SplitN(s, blank, count+1)
-	if len(words) != count {
+	if len(words) < count {
 		panic(api.ErrForm)
 	}
-	return words
+	return words[:count], func(yield func(string) bool) {
+		for _, rest := range words[count:] {
+			// Made anew each time, as it may be ranged over just once.
+			for word := range strings.SplitSeq(rest, blank) {
+				if !yield(word) {
+					return
+				}
+			}
+		}
+	}
+}
+
+// Decimals answers so many decimals of s, as they are written.
+func Decimals(s, between string, count int) []string {
+	numbers := split(s, between, count)
+	for _, number := range numbers {
+		if !IsDecimal(number) {
+			panic(api.ErrForm)
+		}
+	}
+	return numbers
+}
+
+func split(s, between string, count int) []string {
+	// One part too many is enough to be refused, however many there are.
+	l := strings.SplitN(s, between, count+1)
+	if len(l) != count {
+		panic(api.ErrForm)
+	}
+	return l
 }
 
 // Optional tells a text that may be empty.
@@ -99,4 +131,17 @@ func Number(s string) int {
 		panic(api.ErrForm)
 	}
 	return int(n)
+}
+
+// Quantity reads a decimal; one above 2^63 - 1 is told by api.ErrOver.
+func Quantity(s string) int64 {
+	if !IsDecimal(s) {
+		panic(api.ErrForm)
+	}
+	// Of a decimal without a sign the one error left is that it is too great.
+	n, err := strconv.ParseInt(s, 10, 64)
+	if err != nil {
+		panic(api.ErrOver)
+	}
+	return n
 }

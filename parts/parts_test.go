@@ -1,6 +1,7 @@
 package parts_test
 
 import (
+	"iter"
 	"slices"
 	"strings"
 	"testing"
@@ -92,6 +93,62 @@ func TestWords(t *testing.T) {
 	}
 }
 
+func TestAtLeast(t *testing.T) {
+	for _, c := range []struct {
+		text          string
+		first, behind []string
+	}{
+		{"a b", []string{"a", "b"}, nil},
+		{" ", []string{"", ""}, nil},
+		{"a b c", []string{"a", "b"}, []string{"c"}},
+		{"a b c d c", []string{"a", "b"}, []string{"c", "d", "c"}},
+		{"a b ", []string{"a", "b"}, []string{""}},
+		{"a b  c ", []string{"a", "b"}, []string{"", "c", ""}},
+		{"a\tb  c", []string{"a\tb", ""}, []string{"c"}},
+		{"", nil, nil},
+		{"a", nil, nil},
+	} {
+		var behind iter.Seq[string]
+		first, e := catch.Errno(func() (first []string) {
+			first, behind = parts.AtLeast(c.text, 2)
+			return first
+		})
+		if !slices.Equal(first, c.first) || (e == api.OK) != (c.first != nil) || e != api.OK && e != api.ErrForm {
+			t.Errorf("%q: %q %v; want %q", c.text, first, e, c.first)
+		}
+		// over and over again
+		for range 2 {
+			if e == api.OK && !slices.Equal(slices.Collect(behind), c.behind) {
+				t.Errorf("%q: behind %q; want %q", c.text, slices.Collect(behind), c.behind)
+			}
+		}
+	}
+	_, behind := parts.AtLeast("a b c d", 2)
+	for word := range behind {
+		if word != "c" {
+			t.Errorf("%q", word)
+		}
+		break
+	}
+}
+
+func TestDecimals(t *testing.T) {
+	for text, want := range map[string][]string{
+		"0/1/2":                     {"0", "1", "2"},
+		"7/7/7":                     {"7", "7", "7"},
+		"10/9223372036854775808/99": {"10", "9223372036854775808", "99"},
+	} {
+		if l, e := catch.Errno(func() []string { return parts.Decimals(text, "/", 3) }); !slices.Equal(l, want) || e != api.OK {
+			t.Errorf("%q: %q %v", text, l, e)
+		}
+	}
+	for _, text := range []string{"", "0", "0/1", "0/1/2/3", "0/1/2/", "/0/1/2", "//", "0//2", "/1/2", "0/1/", "00/1/2", "0/01/2", "0/1/02", "0/1/-2", "0/1/x", "x/1/2", "0:1:2", "0/1:2", " 0/1/2", "0/1/2 ", strings.Repeat("/", 1000)} {
+		if l, e := catch.Errno(func() []string { return parts.Decimals(text, "/", 3) }); l != nil || e != api.ErrForm {
+			t.Errorf("%q: %q %v", text, l, e)
+		}
+	}
+}
+
 func TestOptional(t *testing.T) {
 	for text, word := range map[string]string{"": "-", "a": "a", "A!": "A!", "--": "--"} {
 		if told := parts.Optional(text); told != word {
@@ -112,8 +169,30 @@ func TestNumber(t *testing.T) {
 			t.Errorf("%q: %d %v", text, n, e)
 		}
 	}
-	for _, text := range []string{"", "-", "-1", "-0", "+1", "00", "01", "1_0", "0x1", "1e3", "1.0", " 1", "1 ", "１", "a", "2147483648", "9223372036854775808", strings.Repeat("9", 1000)} {
+	for _, text := range append(notDecimals(), "2147483648", "9223372036854775808", strings.Repeat("9", 1000)) {
 		if n, e := catch.Errno(func() int { return parts.Number(text) }); n != 0 || e != api.ErrForm {
+			t.Errorf("%q: %d %v", text, n, e)
+		}
+	}
+}
+
+func notDecimals() []string {
+	return []string{"", "-", "-1", "-0", "+1", "00", "01", "1_0", "0x1", "1e3", "1.0", " 1", "1 ", "１", "a", "0" + strings.Repeat("9", 1000)}
+}
+
+func TestQuantity(t *testing.T) {
+	for text, want := range map[string]int64{"0": 0, "7": 7, "10": 10, "2147483648": 1 << 31, "9223372036854775806": 1<<63 - 2, "9223372036854775807": 1<<63 - 1} {
+		if n, e := catch.Errno(func() int64 { return parts.Quantity(text) }); n != want || e != api.OK {
+			t.Errorf("%q: %d %v", text, n, e)
+		}
+	}
+	for _, text := range notDecimals() {
+		if n, e := catch.Errno(func() int64 { return parts.Quantity(text) }); n != 0 || e != api.ErrForm {
+			t.Errorf("%q: %d %v", text, n, e)
+		}
+	}
+	for _, text := range []string{"9223372036854775808", "18446744073709551615", "18446744073709551616", strings.Repeat("9", 1000)} {
+		if n, e := catch.Errno(func() int64 { return parts.Quantity(text) }); n != 0 || e != api.ErrOver {
 			t.Errorf("%q: %d %v", text, n, e)
 		}
 	}

@@ -1,7 +1,6 @@
 package res
 
 import (
-	"strconv"
 	"strings"
 
 	"ballast/api"
@@ -112,12 +111,7 @@ func refuseForm(part string) {
 
 func amount(part string) Amount {
 	name, number, _ := strings.Cut(part, equals)
-	// Of a decimal without a sign the one error left is that it is too great.
-	n, err := strconv.ParseInt(number, 10, 64)
-	if err != nil {
-		panic(api.ErrOver)
-	}
-	return Amount{Name: name, N: n}
+	return Amount{Name: name, N: parts.Quantity(number)}
 }
 
 // owned takes names of its own: a piece of a text keeps the whole text.

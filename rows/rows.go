@@ -1,14 +1,15 @@
-// Package rows: rows of things that have a name each.
+// Package rows: rows of things that rise by a key, as a name is one.
 package rows
 
 import (
+	"cmp"
 	"slices"
 
 	"ballast/api"
 )
 
-// Check tells too many ahead of all, then of each thing what check tells, then that its name is not behind the one ahead.
-func Check[T any](l []T, most int, name func(T) string, check func(T) api.Errno) api.Errno {
+// Check tells too many ahead of all, then of each thing what check tells, then that its key is not behind the one's ahead.
+func Check[T any, K cmp.Ordered](l []T, most int, key func(T) K, check func(T) api.Errno) api.Errno {
 	if len(l) > most {
 		return api.ErrLong
 	}
@@ -16,7 +17,7 @@ func Check[T any](l []T, most int, name func(T) string, check func(T) api.Errno)
 		if e := check(x); e != api.OK {
 			return e
 		}
-		if i > 0 && name(x) <= name(l[i-1]) {
+		if i > 0 && key(x) <= key(l[i-1]) {
 			return api.ErrOrder
 		}
 	}

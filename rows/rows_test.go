@@ -59,6 +59,37 @@ func TestCheck(t *testing.T) {
 	}
 }
 
+// Numbers are no names: 10 is behind 9, and -1 ahead of 0.
+func TestCheckByNumbers(t *testing.T) {
+	for _, c := range []struct {
+		l    []int64
+		want api.Errno
+	}{
+		{nil, api.OK},
+		{[]int64{-1, 0, 9, 10}, api.OK},
+		{[]int64{-1 << 63, 1<<63 - 1}, api.OK},
+		{[]int64{10, 9}, api.ErrOrder},
+		{[]int64{9, 9}, api.ErrOrder},
+		{[]int64{0, -1}, api.ErrOrder},
+		{[]int64{9, 10, 7}, api.ErrArg},
+		{[]int64{10, 9, 7}, api.ErrOrder},
+		{[]int64{5, 4, 3, 2, 1}, api.ErrLong},
+	} {
+		if e := rows.Check(c.l, 4, itself, notSeven); e != c.want {
+			t.Errorf("%v: %v; want %v", c.l, e, c.want)
+		}
+	}
+}
+
+func itself(n int64) int64 { return n }
+
+func notSeven(n int64) api.Errno {
+	if n == 7 {
+		return api.ErrArg
+	}
+	return api.OK
+}
+
 func TestFind(t *testing.T) {
 	l := row("b", "a", "b")
 	x, there := rows.Find(l, "b", nameOf, copied)
